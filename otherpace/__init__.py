@@ -1,0 +1,1 @@
+"""Otherpace: endless walks, their prices and their paces."""

@@ -1,0 +1,113 @@
+"""The document's words once more, as plainly as can be and however slowly, to compare with."""
+
+import itertools
+import re
+
+
+def is_integer(thing):
+    return type(thing) is int
+
+
+def is_table(thing):
+    if type(thing) is not tuple or len(thing) not in range(1, 9):
+        return False
+    rows_fit = all(type(row) is tuple and len(row) == len(thing) for row in thing)
+    return rows_fit and all(is_integer(item) and item >= 0 for row in thing for item in row)
+
+
+def product(one, other):
+    rooms = range(len(one))
+    return tuple(tuple(sum(one[i][m] * other[m][j] for m in rooms) for j in rooms) for i in rooms)
+
+
+def power(table, exponent):
+    result = tuple(tuple(int(i == j) for j in range(len(table))) for i in range(len(table)))
+    for _ in range(exponent):
+        result = product(result, table)
+    return result
+
+
+def web_fault(table):
+    """By the powers from 1 to the number of rooms: a walk that is longer visits a room twice."""
+    rooms = range(len(table))
+    plain = tuple(tuple(min(item, 1) for item in row) for row in table)
+    powers = [power(plain, exponent) for exponent in range(1, len(table) + 1)]
+    for i, j in itertools.product(rooms, rooms):
+        if not any(table_power[i][j] for table_power in powers):
+            return ("apart", i, j)
+    return None if any(sum(row) >= 2 for row in table) else ("ring",)
+
+
+def is_web(thing):
+    return is_table(thing) and web_fault(thing) is None
+
+
+def web_text_fault(text):
+    """The line that web_of tells, None for the text of a web."""
+    if not isinstance(text, str):
+        return 0
+    lines = text.split("\n")
+    if not re.fullmatch("web [1-8]", lines[0]):
+        return 1
+    rooms = int(lines[0][4:])
+    row = re.compile(r"(0|[1-9][0-9]*)( (0|[1-9][0-9]*)){%d}" % (rooms - 1), re.ASCII)
+    for number, line in enumerate(lines[1:], 2):
+        if number > rooms + 1 or not row.fullmatch(line):
+            return number
+    if len(lines) < rooms + 1:
+        return len(lines) + 1
+    table = tuple(tuple(int(word) for word in line.split()) for line in lines[1:])
+    return None if is_web(table) else len(lines) + 1
+
+
+def arrows(web):
+    rooms = range(len(web))
+    return [(i, j, k) for i in rooms for j in rooms for k in range(web[i][j])]
+
+
+def is_walk(web, thing):
+    if type(thing) is not tuple or not thing:
+        return False
+    for arrow in thing:
+        if type(arrow) is not tuple or len(arrow) != 3 or not all(map(is_integer, arrow)):
+            return False
+        i, j, k = arrow
+        if i not in range(len(web)) or j not in range(len(web)) or k not in range(web[i][j]):
+            return False
+    return all(thing[at][1] == thing[at + 1][0] for at in range(len(thing) - 1))
+
+
+def is_round(web, thing):
+    return is_walk(web, thing) and thing[0][0] == thing[-1][1]
+
+
+def turns(lap):
+    return tuple(sorted({lap[at:] + lap[:at] for at in range(len(lap))}))
+
+
+def is_plain(lap):
+    return all(lap[:size] * (len(lap) // size) != lap for size in range(1, len(lap)) if len(lap) % size == 0)
+
+
+def is_told_round(web, thing):
+    return is_round(web, thing) and is_plain(thing) and turns(thing)[0] == thing
+
+
+def told_form(lap):
+    for size in range(1, len(lap) + 1):
+        if lap[:size] * (len(lap) // size) == lap:
+            return (turns(lap[:size])[0], len(lap) // size)
+
+
+def rounds(web, length):
+    """Out of all tuples of so many arrows."""
+    tuples = itertools.product(arrows(web), repeat=length)
+    return tuple(lap for lap in tuples if is_told_round(web, lap))
+
+
+def walks(web, length):
+    """All walks with this length, ascending."""
+    found = [(arrow,) for arrow in arrows(web)]
+    for _ in range(length - 1):
+        found = [walk + (arrow,) for walk in found for arrow in arrows(web) if walk[-1][1] == arrow[0]]
+    return found

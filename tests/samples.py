@@ -1,0 +1,65 @@
+"""Webs to test with, and values of all kinds that are wrong in one place."""
+
+import random
+
+from otherpace.errors import BadWeb, TooManyRooms
+
+G = ((1, 1), (1, 0))
+LOOPS = ((2,),)
+TWO_STEPS = ((0, 2), (1, 0))
+LONG_RING = ((0, 1, 0, 0, 0), (0, 0, 1, 0, 0), (0, 0, 0, 1, 0), (0, 0, 0, 0, 1), (2, 0, 0, 0, 0))
+HUGE = ((10 ** 40 - 1, 0, 1), (3, 0, 10 ** 39), (0, 7, 0))
+FULL = ((6,) * 5,) * 5
+EIGHT = tuple(tuple(int((j - i) in (1, -7)) + (i == j == 3) for j in range(8)) for i in range(8))
+WEBS = (G, LOOPS, ((7,),), TWO_STEPS, LONG_RING, FULL, EIGHT, HUGE,
+        ((1, 1, 0), (0, 0, 1), (1, 1, 0)), ((0, 1, 1), (2, 0, 0), (1, 0, 1)))
+NO_WEBS = (((0,),), ((1,),), ((0, 1), (1, 0)), ((1, 1), (0, 1)), ((2, 0), (0, 2)), ((0, 0), (0, 0)),
+           ((0, 1, 0), (0, 0, 1), (1, 0, 0)), ((2, 1), (0, 0)), ((0, 0), (1, 3)))
+
+
+def nest(depth):
+    """A value that is nested so deep, by turns in a tuple, a list and a dict."""
+    value = 1
+    for level in range(depth):
+        value = ((value,), [value], {"a": value})[level % 3]
+    return value
+
+
+ANY_VALUES = (
+    None, True, False, 0, 1, -1, 2, 8, 10 ** 39, -(10 ** 39), "", "a", "web 1\n2", "\n", " ~" * 900,
+    (), [], {}, (0,), (1,), ((),), ((), ()), [(2,)], ([2],), ((2,), None), {"a": 1}, {(0, 0, 0): 1},
+    ((True,),), ("2",), (("2",),), ((-2,),), ((2, 0),), ((2,), (2,)), "((2,),)",
+    (None,), (((2,),),), tuple(range(2999)), [0] * 2999, nest(12), (nest(11), nest(11)),
+    ((1,) * 9,) * 9, ((1, 1), (1, True)), ((1, 1), [1, 0]), [(1, 1), (1, 0)], ((1, 1), (1, 0), (0, 0)),
+    ((1, 1), (1,)), ((1, 1), (1, 0), ()), ((1, 1), "10"), ((1, 1), {0: 1, 1: 0}),
+    BadWeb(3), TooManyRooms(), (BadWeb(3),), ((0, 0, 0),), (0, 0, 0), ((0, 0),), ((0, 0, 0, 0),),
+)
+REPLACEMENTS = (None, True, False, -1, 0, 1, 9, 10 ** 39, "1", "", (), (0,), [], [1], {}, ((1,),), BadWeb(1))
+
+
+def changed_once(value):
+    """All values that differ from a tuple of tuples in one place: a part replaced, left out,
+    repeated, exchanged with the next one, or the tuple made a list."""
+    if not isinstance(value, tuple):
+        return [part for part in REPLACEMENTS] + ([bool(value)] if value in (0, 1) else [])
+    found = [list(value), value[::-1]]
+    for at, part in enumerate(value):
+        before, behind = value[:at], value[at + 1:]
+        found.append(before + behind)
+        found.append(before + (part, part) + behind)
+        if behind:
+            found.append(before + (behind[0], part) + behind[1:])
+        found.extend(before + (other,) + behind for other in changed_once(part))
+        found.extend(before + (other,) + behind for other in REPLACEMENTS)
+    return found
+
+
+def random_table(source, rooms, item):
+    """A table of arrows with so many rooms and items up to item, often with zeros."""
+    return tuple(tuple(source.choice((0, 0, source.randint(0, item))) for _ in range(rooms)) for _ in range(rooms))
+
+
+def random_tables(seed, many, rooms=5, item=3):
+    """So many tables of arrows, some of them webs."""
+    source = random.Random(seed)
+    return [random_table(source, source.randint(1, rooms), item) for _ in range(many)]
