@@ -16,8 +16,26 @@ def is_integer_below(thing, end):
     return is_integer_from(thing, 0) and thing < end
 
 
+def is_row(thing, many):
+    """Whether any value is a tuple of so many integers."""
+    return isinstance(thing, tuple) and len(thing) == many and all([is_integer(item) for item in thing])
+
+
+def is_row_from(thing, many, least):
+    """Whether any value is a tuple of so many integers that are at least so much."""
+    return is_row(thing, many) and all([item >= least for item in thing])
+
+
+def is_number(thing):
+    """Whether any value is a number: a pair of integers whose second one is at least 1."""
+    return is_row(thing, 2) and thing[1] >= 1
+
+
+def is_paper(thing, kind, many):
+    """Whether any value is a tuple of so many items, from 1 on, that begins with the name of a kind."""
+    return isinstance(thing, tuple) and len(thing) == many and thing[0] == kind
+
+
 def is_order(thing, many):
     """Whether any value is a tuple with each integer from 0 to many - 1 once."""
-    if not isinstance(thing, tuple) or not all([is_integer(part) for part in thing]):
-        return False
-    return sorted(thing) == list(range(many))
+    return is_row(thing, many) and sorted(thing) == list(range(many))

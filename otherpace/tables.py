@@ -7,9 +7,14 @@ def unit_table(many):
     return tuple([tuple([int(i == j) for j in rooms]) for i in rooms])
 
 
+def turned(table):
+    """The table whose rows are the columns of this one, as a tuple of tuples."""
+    return tuple(zip(*table))
+
+
 def table_product(one, other):
     """The product of two tables, as a tuple of tuples."""
-    columns = list(zip(*other))
+    columns = turned(other)
     return tuple([tuple([row_product(row, column) for column in columns]) for row in one])
 
 

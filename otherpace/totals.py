@@ -1,20 +1,33 @@
 """How many rounds of a length a web has, without a look at single rounds."""
 
-from otherpace.tables import table_power
+from otherpace.polynomials import bottom_without_zeros, power_sum, remainder
 
 
 def closed_total(web, length):
     """How many rounds have this length, from 1 on."""
-    table = table_power(web, length)
-    return sum([table[i][i] for i in range(len(table))])
+    # The closed numbers are the sums of the powers of the roots.
+    return power_sum(bottom_without_zeros(web), length, 0)
 
 
 def told_total(web, length):
     """How many told rounds have this length, from 1 on."""
-    total = 0
-    for divisor in divisors_of_length(length):
-        total += moebius(divisor) * closed_total(web, length // divisor)
-    return total // length
+    return told_times_length(bottom_without_zeros(web), length, 0) // length
+
+
+def told_times_length(bottom, length, modulus):
+    """The number of told rounds with a length, times this length, by the fraction's bottom.
+
+    It is exact if the modulus is 0, otherwise the remainder modulo this.
+    """
+    parts = [sign * power_sum(bottom, length // divisor, modulus) for divisor, sign in signed_divisors(length)]
+    return remainder(sum(parts), modulus)
+
+
+def signed_divisors(number):
+    """The list of the pairs (d, mu(d)) for all divisors d of an integer from 1 on, without
+    those for which mu(d) is 0."""
+    pairs = [(divisor, moebius(divisor)) for divisor in divisors_of_length(number)]
+    return [(divisor, sign) for divisor, sign in pairs if sign != 0]
 
 
 def divisors_of_length(length):

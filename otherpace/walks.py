@@ -1,7 +1,8 @@
 """Walks and rounds of a web, and the told rounds of a length."""
 
-from otherpace.errors import BadLength, BadRound, TooMany
-from otherpace.kinds import is_integer_below, is_integer_from
+from otherpace.checks import check_length
+from otherpace.errors import BadRound, TooMany
+from otherpace.kinds import is_integer_below
 from otherpace.totals import divisors_of_length, told_total
 from otherpace.webs import check_web
 
@@ -9,6 +10,11 @@ from otherpace.webs import check_web
 def is_walk(web, thing):
     """Whether any value is a walk of the web."""
     check_web(web)
+    return is_walk_of(web, thing)
+
+
+def is_walk_of(web, thing):
+    """The same as is_walk, for what is surely a web."""
     if not isinstance(thing, tuple) or len(thing) == 0:
         return False
     if not all([is_arrow(web, part) for part in thing]):
@@ -28,7 +34,13 @@ def is_arrow(web, thing):
 
 def is_round(web, thing):
     """Whether any value is a round of the web."""
-    return is_walk(web, thing) and thing[-1][1] == thing[0][0]
+    check_web(web)
+    return is_round_of(web, thing)
+
+
+def is_round_of(web, thing):
+    """The same as is_round, for what is surely a web."""
+    return is_walk_of(web, thing) and thing[-1][1] == thing[0][0]
 
 
 def is_told_round(web, thing):
@@ -102,8 +114,7 @@ def first_turn(lap):
 def rounds(web, length, *, most=4096):
     """The ascending tuple of all told rounds with this length."""
     check_web(web)
-    if not is_integer_from(length, 1):
-        raise BadLength(length)
+    check_length(length, 1)
     # They are counted before any is made, as there may be far too many to make.
     if told_total(web, length) > most:
         raise TooMany(most)

@@ -2,8 +2,8 @@
 
 from otherpace.digits import is_natural_word, natural_of, natural_word
 from otherpace.errors import BadLength, BadOrder, BadTable, BadText, BadWeb
-from otherpace.kinds import is_integer_from, is_order
-from otherpace.tables import table_power
+from otherpace.kinds import is_integer_from, is_order, is_row_from
+from otherpace.tables import table_power, turned
 
 MOST_ROOMS = 8
 
@@ -12,14 +12,7 @@ def is_table(thing):
     """Whether any value is a table of arrows."""
     if not isinstance(thing, tuple) or not 1 <= len(thing) <= MOST_ROOMS:
         return False
-    return all([is_table_row(row, len(thing)) for row in thing])
-
-
-def is_table_row(thing, many):
-    """Whether any value is a tuple of so many integers from 0 on."""
-    if not isinstance(thing, tuple) or len(thing) != many:
-        return False
-    return all([is_integer_from(item, 0) for item in thing])
+    return all([is_row_from(row, len(thing), 0) for row in thing])
 
 
 def is_web(thing):
@@ -68,14 +61,24 @@ def reached_from(table, start):
 def arrows(web):
     """The ascending tuple of the arrows of a web."""
     check_web(web)
+    return arrows_of(web)
+
+
+def arrows_of(web):
+    """The same as arrows, for what is surely a web."""
     rooms = list(range(len(web)))
     return tuple([(i, j, k) for i in rooms for j in rooms for k in range(web[i][j])])
+
+
+def arrows_many(web):
+    """How many arrows a web has, which may be far too many to list them."""
+    return sum([sum(row) for row in web])
 
 
 def turned_web(web):
     """The web with all arrows the other way round."""
     check_web(web)
-    return tuple(zip(*web))
+    return turned(web)
 
 
 def renamed_web(web, order):

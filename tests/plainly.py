@@ -2,6 +2,7 @@
 
 import itertools
 import re
+from fractions import Fraction
 
 
 def is_integer(thing):
@@ -111,3 +112,60 @@ def walks(web, length):
     for _ in range(length - 1):
         found = [walk + (arrow,) for walk in found for arrow in arrows(web) if walk[-1][1] == arrow[0]]
     return found
+
+
+def closed_numbers(web, most):
+    """The closed numbers of the lengths from 1 to most."""
+    found = []
+    table = power(web, 0)
+    for _ in range(most):
+        table = product(table, web)
+        found.append(sum(table[i][i] for i in range(len(web))))
+    return found
+
+
+def told_numbers(closed):
+    """The numbers of told rounds of the lengths from 1 on, by their closed numbers: each round is
+    a turn of just one told round that is repeated."""
+    told = []
+    for length, many in enumerate(closed, 1):
+        repeated = sum(size * told[size - 1] for size in range(1, length) if length % size == 0)
+        told.append((many - repeated) // length)
+    return told
+
+
+def determinant(table):
+    """By C. Gauss, with fractions."""
+    rows = [[Fraction(item) for item in row] for row in table]
+    result = Fraction(1)
+    for at in range(len(rows)):
+        pivot = next((row for row in range(at, len(rows)) if rows[row][at]), None)
+        if pivot is None:
+            return 0
+        if pivot != at:
+            rows[at], rows[pivot] = rows[pivot], rows[at]
+            result = -result
+        result *= rows[at][at]
+        for row in range(at + 1, len(rows)):
+            times = rows[row][at] / rows[at][at]
+            rows[row] = [x - times * y for x, y in zip(rows[row], rows[at])]
+    return int(result)
+
+
+def simple_rounds(web):
+    """All told rounds in which no room occurs twice, ascending."""
+    found = []
+    begun = [(arrow,) for arrow in arrows(web)]
+    while begun:
+        found.extend(walk for walk in begun if is_told_round(web, walk))
+        begun = [walk + (arrow,) for walk in begun for arrow in arrows(web)
+                 if walk[-1][1] == arrow[0] and arrow[0] not in [step[0] for step in walk]]
+    return tuple(sorted(found))
+
+
+def price(web, prices, walk):
+    return sum(prices[arrows(web).index(arrow)] for arrow in walk)
+
+
+def slope(web, heights):
+    return tuple(heights[j] - heights[i] for i, j, _ in arrows(web))

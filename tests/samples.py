@@ -3,6 +3,7 @@
 import random
 
 from otherpace.errors import BadWeb, TooManyRooms
+from tests import plainly
 
 G = ((1, 1), (1, 0))
 LOOPS = ((2,),)
@@ -41,7 +42,8 @@ def changed_once(value):
     """All values that differ from a tuple of tuples in one place: a part replaced, left out,
     repeated, exchanged with the next one, or the tuple made a list."""
     if not isinstance(value, tuple):
-        return [part for part in REPLACEMENTS] + ([bool(value)] if value in (0, 1) else [])
+        near = [value + 1, value - 1, -value] if plainly.is_integer(value) else []
+        return list(REPLACEMENTS) + near + ([bool(value)] if value in (0, 1) else [])
     found = [list(value), value[::-1]]
     for at, part in enumerate(value):
         before, behind = value[:at], value[at + 1:]
@@ -57,6 +59,41 @@ def changed_once(value):
 def random_table(source, rooms, item):
     """A table of arrows with so many rooms and items up to item, often with zeros."""
     return tuple(tuple(source.choice((0, 0, source.randint(0, item))) for _ in range(rooms)) for _ in range(rooms))
+
+
+def random_web(source, rooms, item, most_arrows=60):
+    """A web with so many rooms, items up to item and not too many arrows."""
+    while True:
+        web = random_table(source, rooms, item)
+        if sum(map(sum, web)) <= most_arrows and plainly.is_web(web):
+            return web
+
+
+def random_webs(seed, many, rooms=5, item=3, most_arrows=60):
+    """So many webs with up to so many rooms."""
+    source = random.Random(seed)
+    return [random_web(source, source.randint(1, rooms), source.randint(2, item), most_arrows) for _ in range(many)]
+
+
+def random_row(source, web, low, high):
+    """An integer for each arrow."""
+    return tuple(source.randint(low, high) for _ in plainly.arrows(web))
+
+
+def random_walk(source, web, length):
+    walk = []
+    room = source.randrange(len(web))
+    for _ in range(length):
+        walk.append(source.choice([arrow for arrow in plainly.arrows(web) if arrow[0] == room]))
+        room = walk[-1][1]
+    return tuple(walk)
+
+
+def random_round(source, web, length):
+    """A round of at most this length: the walk up to where it last is in its first room."""
+    walk = random_walk(source, web, length)
+    ends = [at + 1 for at, arrow in enumerate(walk) if arrow[1] == walk[0][0]]
+    return walk[:ends[-1]] if ends else random_round(source, web, length)
 
 
 def random_tables(seed, many, rooms=5, item=3):

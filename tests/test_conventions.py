@@ -1,32 +1,21 @@
-"""[0.2]: names and sequences of arguments, that nothing passed is changed, equal answers."""
+"""[0.2]: names and sequences of arguments, errors in their sequence, that nothing passed is
+changed, equal answers."""
 
 import copy
 import inspect
+import random
 import unittest
 
-from otherpace import walks, webs
-from otherpace.errors import PaceError
-from tests.samples import ANY_VALUES, G, LOOPS
+from otherpace import webs
+from otherpace.errors import PaceError, TooMany, TooManyRooms
+from tests import plainly
+from tests.listed import LISTED, expected_error, function_of
+from tests.samples import ANY_VALUES, LOOPS, NO_WEBS, changed_once
 
-LAP = ((1, 0, 0), (0, 1, 0), (1, 0, 0), (0, 1, 0))
-# Each function with its parameters as the interface writes them, and arguments that fit.
-LISTED = (
-    (webs.is_table, "(thing)", (G,)),
-    (webs.is_web, "(thing)", (G,)),
-    (webs.web_fault, "(table)", (((1, 1), (0, 1)),)),
-    (webs.arrows, "(web)", (G,)),
-    (webs.turned_web, "(web)", (((0, 2), (1, 0)),)),
-    (webs.renamed_web, "(web, order)", (G, (1, 0))),
-    (webs.power, "(web, length)", (G, 3)),
-    (webs.web_text, "(web)", (G,)),
-    (webs.web_of, "(text)", ("web 2\n1 1\n1 0",)),
-    (walks.is_walk, "(web, thing)", (G, LAP)),
-    (walks.is_round, "(web, thing)", (G, LAP)),
-    (walks.is_told_round, "(web, thing)", (G, LAP)),
-    (walks.turns, "(web, lap)", (G, LAP)),
-    (walks.told_form, "(web, lap)", (G, LAP)),
-    (walks.rounds, "(web, length, *, most=4096)", (G, 5)),
-)
+FUNCTIONS = [(function_of(module, name), args, checks) for module, name, _, args, checks in LISTED]
+# What follows from arguments that fit.
+LAST_ERRORS = ((TooMany, {"most": 4096}), (TooManyRooms, {}))
+FUNCTIONS.append((webs.web_of, ("web 2\n1 1\n1 0",), ()))
 
 
 def outcome(function, *args, **named):
@@ -37,19 +26,25 @@ def outcome(function, *args, **named):
         return (error.__class__, vars(error))
 
 
+def is_beyond(thing):
+    """Whether a value is an integer or a web that is too great to be passed where one is asked."""
+    if isinstance(thing, int):
+        return abs(thing) > 10 ** 6
+    return plainly.is_table(thing) and sum(map(sum, thing)) > 60
+
+
 class Interface(unittest.TestCase):
     def test_parameters(self):
-        for function, written, _ in LISTED:
-            self.assertEqual(str(inspect.signature(function)), written, function)
+        for module, name, written, _, _ in LISTED:
+            self.assertEqual(str(inspect.signature(function_of(module, name))), written, name)
+        self.assertEqual(str(inspect.signature(webs.web_of)), "(text)")
 
     def test_defined_where_they_are_listed(self):
-        for function, _, _ in LISTED[:9]:
-            self.assertEqual(function.__module__, "otherpace.webs")
-        for function, _, _ in LISTED[9:]:
-            self.assertEqual(function.__module__, "otherpace.walks")
+        for module, name, _, _, _ in LISTED:
+            self.assertEqual(function_of(module, name).__module__, "otherpace." + module)
 
     def test_by_position_and_by_name(self):
-        for function, _, args in LISTED:
+        for function, args, _ in FUNCTIONS:
             names = list(inspect.signature(function).parameters)
             named = dict(zip(names, args))
             expected = function(*args)
@@ -58,9 +53,49 @@ class Interface(unittest.TestCase):
             self.assertEqual(function(*args[:1], **{name: named[name] for name in list(named)[1:]}), expected)
 
 
+class Errors(unittest.TestCase):
+    def check(self, function, args, checks):
+        expected = expected_error(args, checks)
+        if expected is None:
+            answer = outcome(function, *args)
+            if answer in LAST_ERRORS:
+                self.assertIn(function.__name__, ("rounds", "stretched"))
+            elif function.__name__.startswith("is_") or function.__name__.endswith("_holds"):
+                self.assertIsInstance(answer, bool)
+            else:
+                self.assertFalse(isinstance(answer, tuple) and any(map(inspect.isclass, answer[:1])), (function, args))
+            return
+        with self.assertRaises(PaceError) as caught:
+            function(*args)
+        self.assertIs(caught.exception.__class__, expected.__class__, (function, args))
+        for name, value in vars(expected).items():
+            self.assertIs(getattr(caught.exception, name), value)
+        self.assertEqual(vars(caught.exception), vars(expected))
+
+    def test_one_wrong_argument(self):
+        for function, args, checks in FUNCTIONS:
+            for at in range(len(args)):
+                things = ANY_VALUES + NO_WEBS + tuple(changed_once(args[at])) if at else ANY_VALUES + NO_WEBS
+                for thing in things:
+                    if function is not webs.web_of and not is_beyond(thing):
+                        self.check(function, args[:at] + (thing,) + args[at + 1:], checks)
+
+    def test_several_wrong_arguments(self):
+        source = random.Random(31)
+        for function, args, checks in FUNCTIONS[:-1]:
+            near = [changed_once(arg) for arg in args]
+            for _ in range(150):
+                passed = list(args)
+                for at in range(len(args)):
+                    if source.random() < 0.5:
+                        passed[at] = source.choice(source.choice((ANY_VALUES, near[at])))
+                if not any(is_beyond(thing) for thing in passed):
+                    self.check(function, tuple(passed), checks)
+
+
 class NothingChanges(unittest.TestCase):
     def test_arguments(self):
-        for function, _, args in LISTED:
+        for function, args, _ in FUNCTIONS:
             for at in range(len(args)):
                 for value in ANY_VALUES:
                     if isinstance(value, int) and not isinstance(value, bool):
@@ -75,7 +110,7 @@ class NothingChanges(unittest.TestCase):
                     self.assertEqual(outcome(function, *passed), first)
 
     def test_same_call_same_answer(self):
-        for function, _, args in LISTED:
+        for function, args, _ in FUNCTIONS:
             first = function(*args)
             outcome(function, *((LOOPS,) + args[1:]))
             self.assertEqual(function(*args), first)

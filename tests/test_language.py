@@ -54,6 +54,12 @@ def bound_names(tree):
             yield node.name, node.lineno
 
 
+def defined_names(tree):
+    """The names that a file defines itself, and does not import."""
+    values = [target.id for node in tree.body if isinstance(node, ast.Assign) for target in node.targets]
+    return [node.name for node in tree.body if hasattr(node, "name")] + values
+
+
 def imports(tree):
     return [node for node in tree.body if isinstance(node, ast.ImportFrom)]
 
@@ -89,7 +95,7 @@ class Language(unittest.TestCase):
                 known = LIBRARY.get(node.module)
                 if known is None:
                     self.assertEqual(folder, "otherpace", stem)
-                    known = [item.name for item in TREES[name].body if hasattr(item, "name")]
+                    known = defined_names(TREES[name])
                 for alias in node.names:
                     self.assertIn(alias.name, known, stem)
                     self.assertIsNone(alias.asname, stem)

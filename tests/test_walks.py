@@ -7,28 +7,12 @@ import unittest
 from otherpace.errors import BadRound, BadWeb
 from otherpace.walks import is_round, is_told_round, is_walk, rounds, told_form, turns
 from tests import plainly
-from tests.samples import ANY_VALUES, FULL, G, HUGE, LOOPS, NO_WEBS, TWO_STEPS, changed_once
+from tests.samples import ANY_VALUES, FULL, G, HUGE, LOOPS, NO_WEBS, TWO_STEPS, changed_once, random_round
 
 HOME, OUT, BACK = (0, 0, 0), (0, 1, 0), (1, 0, 0)
 THREE = ((0, 1, 1), (2, 0, 0), (1, 0, 1))
 SMALL_WEBS = (G, LOOPS, TWO_STEPS, THREE)
 SAMPLES = ((HOME,), (OUT, BACK), (BACK, OUT), (HOME, OUT, BACK), (BACK, OUT, BACK, OUT), (OUT, BACK, HOME, HOME))
-
-
-def random_walk(source, web, length):
-    walk = []
-    room = source.randrange(len(web))
-    for _ in range(length):
-        walk.append(source.choice([arrow for arrow in plainly.arrows(web) if arrow[0] == room]))
-        room = walk[-1][1]
-    return tuple(walk)
-
-
-def random_round(source, web, length):
-    """A round of at most this length: the walk up to where it last is in its first room."""
-    walk = random_walk(source, web, length)
-    ends = [at + 1 for at, arrow in enumerate(walk) if arrow[1] == walk[0][0]]
-    return walk[:ends[-1]] if ends else random_round(source, web, length)
 
 
 def random_rounds(seed, many, length=40):

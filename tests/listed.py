@@ -1,0 +1,106 @@
+"""The functions of the interface: their files, parameters, arguments that fit, and the errors
+that wrong arguments raise, in the sequence in which the document names them."""
+
+import importlib
+
+from otherpace import errors
+from tests import plainly
+from tests.right import is_row
+from tests.samples import G, LOOPS
+
+LAP = ((1, 0, 0), (0, 1, 0), (1, 0, 0), (0, 1, 0))
+ROUND = ("round", ((0, 1, 0), (1, 0, 0)))
+ROWS = (G, (5, 2, 1), (1, 2, 3))
+
+
+def is_from(thing, least):
+    return plainly.is_integer(thing) and thing >= least
+
+
+def is_number(thing):
+    return is_row(thing, 2) and thing[1] >= 1
+
+
+def is_arrow_row(web, thing, least=None):
+    return is_row(thing, len(plainly.arrows(web))) and (least is None or all(item >= least for item in thing))
+
+
+# Whether a value fits, where the first argument is surely a web.
+RULES = {
+    "web": ("BadWeb", lambda web, thing: plainly.is_web(thing)),
+    "table": ("BadTable", lambda web, thing: plainly.is_table(thing)),
+    "order": ("BadOrder", lambda web, thing: is_row(thing, len(web)) and sorted(thing) == list(range(len(web)))),
+    "room": ("BadRoom", lambda web, thing: is_from(thing, 0) and thing < len(web)),
+    "length from 0": ("BadLength", lambda web, thing: is_from(thing, 0)),
+    "length": ("BadLength", lambda web, thing: is_from(thing, 1)),
+    "walk": ("BadWalk", plainly.is_walk),
+    "round": ("BadRound", plainly.is_round),
+    "prices": ("BadPrices", is_arrow_row),
+    "times": ("BadTimes", lambda web, thing: is_arrow_row(web, thing, 1)),
+    "heights": ("BadHeights", lambda web, thing: is_row(thing, len(web))),
+    "numbers": ("BadNumbers", lambda web, thing: is_row(thing, len(plainly.arrows(web)) - len(web) + 1)),
+    "m": ("BadNumber", lambda web, thing: is_from(thing, 1)),
+    "number": ("BadNumber", lambda web, thing: is_number(thing)),
+}
+# File, name, parameters, arguments that fit, and for each argument that is checked its place
+# and its rule.
+LISTED = (
+    ("webs", "is_table", "(thing)", (G,), ()),
+    ("webs", "is_web", "(thing)", (G,), ()),
+    ("webs", "web_fault", "(table)", (((1, 1), (0, 1)),), ((0, "table"),)),
+    ("webs", "arrows", "(web)", (G,), ((0, "web"),)),
+    ("webs", "turned_web", "(web)", (((0, 2), (1, 0)),), ((0, "web"),)),
+    ("webs", "renamed_web", "(web, order)", (G, (1, 0)), ((0, "web"), (1, "order"))),
+    ("webs", "power", "(web, length)", (G, 3), ((0, "web"), (1, "length from 0"))),
+    ("webs", "web_text", "(web)", (G,), ((0, "web"),)),
+    ("walks", "is_walk", "(web, thing)", (G, LAP), ((0, "web"),)),
+    ("walks", "is_round", "(web, thing)", (G, LAP), ((0, "web"),)),
+    ("walks", "is_told_round", "(web, thing)", (G, LAP), ((0, "web"),)),
+    ("walks", "turns", "(web, lap)", (G, LAP), ((0, "web"), (1, "round"))),
+    ("walks", "told_form", "(web, lap)", (G, LAP), ((0, "web"), (1, "round"))),
+    ("walks", "rounds", "(web, length, *, most=4096)", (G, 5), ((0, "web"), (1, "length"))),
+    ("numbers", "walks_many", "(web, i, j, length)", (G, 0, 1, 3),
+     ((0, "web"), (1, "room"), (2, "room"), (3, "length from 0"))),
+    ("numbers", "closed_many", "(web, length)", (G, 3), ((0, "web"), (1, "length"))),
+    ("numbers", "rounds_many", "(web, length)", (G, 3), ((0, "web"), (1, "length"))),
+    ("numbers", "bottom_of", "(web)", (G,), ((0, "web"),)),
+    ("numbers", "judge_as_many", "(one, other)", (G, LOOPS), ((0, "web"), (1, "web"))),
+    ("numbers", "as_many_holds", "(one, other, thing)", (G, LOOPS, ("length", 1)), ((0, "web"), (1, "web"))),
+    ("prices", "is_price_row", "(web, thing)", (G, (5, 2, 1)), ((0, "web"),)),
+    ("prices", "price", "(web, prices, walk)", (G, (5, 2, 1), LAP), ((0, "web"), (1, "prices"), (2, "walk"))),
+    ("prices", "slope", "(web, heights)", (G, (0, 3)), ((0, "web"), (1, "heights"))),
+    ("prices", "first_tree", "(web)", (G,), ((0, "web"),)),
+    ("prices", "plain_prices", "(web, prices)", (G, (5, 2, 1)), ((0, "web"), (1, "prices"))),
+    ("prices", "price_numbers", "(web, prices)", (G, (5, 2, 1)), ((0, "web"), (1, "prices"))),
+    ("prices", "step_of", "(web, prices)", (G, (4, 2, 2)), ((0, "web"), (1, "prices"))),
+    ("prices", "prices_of", "(web, numbers)", (G, (5, 3)), ((0, "web"), (1, "numbers"))),
+    ("prices", "judge_agree", "(web, one, other)", ROWS, ((0, "web"), (1, "prices"), (2, "prices"))),
+    ("prices", "agree_holds", "(web, one, other, thing)", ROWS + (ROUND,), ((0, "web"), (1, "prices"), (2, "prices"))),
+    ("prices", "judge_modulo", "(web, one, other, m)", ROWS + (7,),
+     ((0, "web"), (1, "prices"), (2, "prices"), (3, "m"))),
+    ("prices", "modulo_holds", "(web, one, other, m, thing)", ROWS + (7, ROUND),
+     ((0, "web"), (1, "prices"), (2, "prices"), (3, "m"))),
+    ("prices", "period_of", "(web)", (((0, 2), (1, 0)),), ((0, "web"),)),
+    ("rates", "least_rate", "(web, prices, times)", ROWS, ((0, "web"), (1, "prices"), (2, "times"))),
+    ("rates", "greatest_rate", "(web, prices, times)", ROWS, ((0, "web"), (1, "prices"), (2, "times"))),
+    ("rates", "tight_arrows", "(web, prices, times)", ROWS, ((0, "web"), (1, "prices"), (2, "times"))),
+    ("rates", "judge_at_least", "(web, prices, times, number)", ROWS + ((6, 4),),
+     ((0, "web"), (1, "prices"), (2, "times"), (3, "number"))),
+    ("rates", "at_least_holds", "(web, prices, times, number, thing)", ROWS + ((6, 4), ROUND),
+     ((0, "web"), (1, "prices"), (2, "times"), (3, "number"))),
+    ("stretching", "stretched", "(web, times)", (G, (1, 2, 3)), ((0, "web"), (1, "times"))),
+    ("stretching", "timed_many", "(web, times, time)", (G, (1, 2, 3), 5), ((0, "web"), (1, "times"), (2, "length"))),
+)
+
+
+def function_of(module, name):
+    return getattr(importlib.import_module("otherpace." + module), name)
+
+
+def expected_error(args, checks):
+    """The error that the document names first, None if all arguments fit."""
+    for at, rule in checks:
+        name, fits = RULES[rule]
+        if not fits(args[0], args[at]):
+            return getattr(errors, name)(args[at])
+    return None
