@@ -3,7 +3,7 @@
 Where a web is passed, it is surely one.
 """
 
-from otherpace.errors import BadLength, BadNumber, BadPrices, BadRoom, BadTimes
+from otherpace.errors import BadCounts, BadLength, BadNumber, BadPrices, BadRoom, BadTimes
 from otherpace.kinds import is_integer_below, is_integer_from, is_number, is_row, is_row_from
 from otherpace.webs import arrows_many
 
@@ -36,6 +36,12 @@ def check_prices(web, thing):
     """Raise BadPrices for any value that is not a price row."""
     if not is_row(thing, arrows_many(web)):
         raise BadPrices(thing)
+
+
+def check_counts(web, thing):
+    """Raise BadCounts for any value that is not counts."""
+    if not is_row_from(thing, arrows_many(web), 0):
+        raise BadCounts(thing)
 
 
 def check_times(web, thing):

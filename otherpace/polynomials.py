@@ -5,6 +5,7 @@ det(x - A) by descending powers of x. So a row stands for both polynomials here,
 without zeros at the end tells all roots of det(x - A) but 0.
 """
 
+from otherpace.ratios import without_divisor
 from otherpace.tables import row_product, table_product, unit_table
 
 
@@ -29,6 +30,12 @@ def bottom_without_zeros(table):
     while row[end - 1] == 0:
         end -= 1
     return row[:end]
+
+
+def determinant(table):
+    """The determinant of a table with as many rows as columns, 1 if it has none."""
+    last = bottom_row(table)[-1]
+    return last if len(table) & 1 == 0 else -last
 
 
 def power_sum(row, exponent, modulus):
@@ -85,3 +92,76 @@ def rest_of(row, ascending, modulus):
 def remainder(number, modulus):
     """The remainder modulo this, the number itself if it is 0."""
     return number if modulus == 0 else number % modulus
+
+
+def without_first(row, other, times):
+    """The list of the items of a row less the other row so many times, both from the first item
+    on; without this item, which is 0 then."""
+    longer = list(other) + [0] * (len(row) - len(other))
+    return [x - times * y for x, y in zip(row, longer)][1:]
+
+
+def quotient(row, divisor):
+    """The polynomial that a polynomial that divides another one leaves of it."""
+    found = []
+    left = row
+    while len(left) >= len(divisor):
+        found.append(left[0])
+        left = without_first(left, divisor, left[0])
+    return tuple(found)
+
+
+def common_factor(one, other):
+    """The greatest common divisor of two polynomials."""
+    left, right = one, other
+    while right:
+        left, right = right, scaled_rest(left, right)
+    # It divides polynomials that begin with 1, so its first item divides all others.
+    return tuple([item // left[0] for item in left])
+
+
+def scaled_rest(one, other):
+    """What the division of a polynomial by another one leaves, times a number and without a
+    common divisor; () if it leaves nothing."""
+    left = one
+    while len(left) >= len(other):
+        left = without_first([item * other[0] for item in left], other, left[0])
+    while left and left[0] == 0:
+        left = left[1:]
+    return without_divisor(left) if left else ()
+
+
+def shifted(row, top, bottom):
+    """The coefficients of det(x - A) at (top + y) / bottom, by ascending powers of y, times a
+    power of the bottom: they have the signs of the value and its derivatives at top / bottom."""
+    found = []
+    left = scaled(row, bottom)
+    while left:
+        # W. Horner's way: each time one more power is divided off.
+        item = 0
+        led = []
+        for part in left:
+            item = item * top + part
+            led.append(item)
+        found.append(item)
+        left = led[:-1]
+    return found
+
+
+def scaled(row, times):
+    """The list of the items, each times the power of a number whose exponent is its place."""
+    found = []
+    power = 1
+    for item in row:
+        found.append(item * power)
+        power = power * times
+    return found
+
+
+def value_at_table(row, table, column):
+    """The polynomial at a table instead of x, times a column, which is a row of integers here."""
+    found = [0] * len(column)
+    for item in row:
+        led = [row_product(line, found) for line in table]
+        found = [x + item * y for x, y in zip(led, column)]
+    return found

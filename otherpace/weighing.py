@@ -23,13 +23,13 @@ def judge_weights(web, weights):
     last = [()] * len(web)
     lowered = 0
     for _ in range(len(web)):
-        lowered = lower(steps, heights, last)
+        lowered = lower_heights(steps, heights, last)
         if lowered < 0:
             return ("heights", tuple([height - heights[0] for height in heights]))
     return ("round", lap_behind(last, lowered))
 
 
-def lower(steps, heights, last):
+def lower_heights(steps, heights, last):
     """Lower each room to what the arrows to it allow, and note the last arrow that did it.
 
     Returns the room that was lowered last, -1 if there was none.

@@ -1,5 +1,7 @@
 """Which papers are right: the document's words once more, to compare with."""
 
+from fractions import Fraction
+
 from tests import plainly
 
 
@@ -61,4 +63,125 @@ def at_least(web, prices, times, number, thing):
         return all(bottom * worth - top * time >= rise for worth, time, rise in zip(prices, times, slope))
     if is_pair(thing, "round") and plainly.is_round(web, thing[1]):
         return plainly.price(web, prices, thing[1]) * bottom < top * plainly.price(web, times, thing[1])
+    return False
+
+
+def is_room(web, thing):
+    return type(thing) is int and thing in range(len(web))
+
+
+def sums_at(web, counts, room):
+    """How many counted arrows begin in a room, and how many end in it."""
+    pairs = list(zip(plainly.arrows(web), counts))
+    return tuple(sum(many for arrow, many in pairs if arrow[end] == room) for end in (0, 1))
+
+
+def uneven(web, counts, thing):
+    if not is_pair(thing, "uneven") or not is_room(web, thing[1]):
+        return False
+    begun, ended = sums_at(web, counts, thing[1])
+    return begun != ended
+
+
+def counted(web, steps):
+    return tuple(sum(step == arrow for step in steps) for arrow in plainly.arrows(web))
+
+
+def counts(web, row, thing):
+    if type(thing) is tuple and len(thing) == 1 and type(thing[0]) is str and thing[0] == "nought":
+        return not any(row)
+    if is_pair(thing, "parts"):
+        rooms = thing[1]
+        if type(rooms) is not tuple or not all(is_room(web, room) for room in rooms):
+            return False
+        used = [arrow for arrow, many in zip(plainly.arrows(web), row) if many]
+        inside = [arrow[0] in rooms for arrow in used]
+        across = [arrow for arrow in used if (arrow[0] in rooms) != (arrow[1] in rooms)]
+        return list(rooms) == sorted(set(rooms)) and any(inside) and not all(inside) and not across
+    if is_pair(thing, "round"):
+        return plainly.is_round(web, thing[1]) and counted(web, thing[1]) == row
+    return uneven(web, row, thing)
+
+
+def is_simple_told(web, thing):
+    return plainly.is_told_round(web, thing) and len({arrow[0] for arrow in thing}) == len(thing)
+
+
+def made_up(web, row, thing):
+    if is_pair(thing, "sum"):
+        if type(thing[1]) is not tuple or not all(is_simple_told(web, lap) for lap in thing[1]):
+            return False
+        return list(thing[1]) == sorted(thing[1]) and counted(web, [arrow for lap in thing[1] for arrow in lap]) == row
+    return uneven(web, row, thing)
+
+
+def point(web, one, other, place, thing):
+    x, y = Fraction(*place[0]), Fraction(*place[1])
+    if is_pair(thing, "mixed"):
+        parts = thing[1]
+        if type(parts) is not tuple or not parts:
+            return False
+        for part in parts:
+            if type(part) is not tuple or len(part) != 2 or not is_simple_told(web, part[0]):
+                return False
+            if type(part[1]) is not int or part[1] < 1:
+                return False
+        length = sum(times * len(lap) for lap, times in parts)
+        totals = [sum(times * plainly.price(web, row, lap) for lap, times in parts) for row in (one, other)]
+        return totals == [x * length, y * length]
+    if type(thing) is not tuple or len(thing) != 5 or type(thing[0]) is not str or thing[0] != "outside":
+        return False
+    _, a, b, number, heights = thing
+    if type(a) is not int or type(b) is not int or not is_number(number) or not Fraction(*number) > a * x + b * y:
+        return False
+    row = tuple(a * worth + b * other_worth for worth, other_worth in zip(one, other))
+    return at_least(web, row, (1,) * len(row), number, ("heights", heights))
+
+
+def is_number(thing):
+    return is_row(thing, 2) and thing[1] >= 1
+
+
+def led(web, row):
+    return [sum(item * worth for item, worth in zip(line, row)) for line in web]
+
+
+def signs(web, number, row):
+    """None if this is no row of integers from 1 on, otherwise the set of the signs of the growth
+    that it shows less the number, room by room."""
+    if not is_row(row, len(web)) or min(row) < 1:
+        return None
+    pairs = [(Fraction(after, before), Fraction(*number)) for after, before in zip(led(web, row), row)]
+    return {(x > y) - (x < y) for x, y in pairs}
+
+
+def growth(web, number, thing):
+    kinds = {"below": ({-1}, {-1, 0}), "above": ({1}, {0, 1}), "equal": ({0},)}
+    for kind, shown in kinds.items():
+        if is_pair(thing, kind):
+            return signs(web, number, thing[1]) in shown
+    return False
+
+
+def growths(one, other, thing):
+    if type(thing) is not tuple or not thing or type(thing[0]) is not str:
+        return False
+    if thing[0] in ("less", "more") and len(thing) == 4 and is_number(thing[1]):
+        first, second = (signs(web, thing[1], row) for web, row in zip((one, other), thing[2:]))
+        if first is None or second is None:
+            return False
+        if thing[0] == "more":
+            first, second = second, first
+        return first <= {-1, 0} and second <= {0, 1} and (first, second) != ({0}, {0})
+    if thing[0] == "equal" and len(thing) == 2:
+        table = thing[1]
+        if type(table) is not tuple or len(table) != len(one):
+            return False
+        if not all(is_row(row, len(other)) and min(row) >= 0 for row in table) or not any(map(any, table)):
+            return False
+        left = [[sum(one[i][j] * table[j][k] for j in range(len(one))) for k in range(len(other))]
+                for i in range(len(one))]
+        right = [[sum(table[i][j] * other[j][k] for j in range(len(other))) for k in range(len(other))]
+                 for i in range(len(one))]
+        return left == right
     return False

@@ -10,6 +10,7 @@ from otherpace import webs
 from otherpace.errors import PaceError, TooMany, TooManyRooms
 from tests import plainly
 from tests.listed import LISTED, expected_error, function_of
+from tests.right import is_row
 from tests.samples import ANY_VALUES, LOOPS, NO_WEBS, changed_once
 
 FUNCTIONS = [(function_of(module, name), args, checks) for module, name, _, args, checks in LISTED]
@@ -26,10 +27,12 @@ def outcome(function, *args, **named):
         return (error.__class__, vars(error))
 
 
-def is_beyond(thing):
-    """Whether a value is an integer or a web that is too great to be passed where one is asked."""
+def is_beyond(function, thing):
+    """Whether a value is an integer, counts or a web that is too great to be passed as such."""
     if isinstance(thing, int):
         return abs(thing) > 10 ** 6
+    if "counts" in inspect.signature(function).parameters and is_row(thing, 3):
+        return sum(thing) > 10 ** 6
     return plainly.is_table(thing) and sum(map(sum, thing)) > 60
 
 
@@ -77,7 +80,7 @@ class Errors(unittest.TestCase):
             for at in range(len(args)):
                 things = ANY_VALUES + NO_WEBS + tuple(changed_once(args[at])) if at else ANY_VALUES + NO_WEBS
                 for thing in things:
-                    if function is not webs.web_of and not is_beyond(thing):
+                    if function is not webs.web_of and not is_beyond(function, thing):
                         self.check(function, args[:at] + (thing,) + args[at + 1:], checks)
 
     def test_several_wrong_arguments(self):
@@ -89,7 +92,7 @@ class Errors(unittest.TestCase):
                 for at in range(len(args)):
                     if source.random() < 0.5:
                         passed[at] = source.choice(source.choice((ANY_VALUES, near[at])))
-                if not any(is_beyond(thing) for thing in passed):
+                if not any(is_beyond(function, thing) for thing in passed):
                     self.check(function, tuple(passed), checks)
 
 

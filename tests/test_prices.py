@@ -29,7 +29,8 @@ class PriceRows(unittest.TestCase):
     def test_whether(self):
         self.assertIs(is_price_row(G, (5, 2, 1)), True)
         self.assertIs(is_price_row(G, (-10 ** 39, 0, 7)), True)
-        for thing in ((5, 2), (5, 2, 1, 0), (5, 2, True), [5, 2, 1], (5, 2, "1"), (5, 2, (1,)), (), None, 5, (5, None, 1)):
+        for thing in ((5, 2), (5, 2, 1, 0), (5, 2, True), [5, 2, 1], (5, 2, "1"), (5, 2, (1,)), (), None, 5,
+                      (5, None, 1)):
             self.assertIs(is_price_row(G, thing), False, thing)
         for thing in ANY_VALUES:
             self.assertIs(is_price_row(G, thing), type(thing) is tuple and len(thing) == 3 and
@@ -176,7 +177,9 @@ class PlainRows(unittest.TestCase):
                 row = tuple(times * item for item in random_row(source, web, -9, 9))
                 heights = tuple(source.randint(-99, 99) for _ in web)
                 moved = tuple(x + y for x, y in zip(row, slope(web, heights)))
-                laps = plainly.simple_rounds(web) if len(web) < 5 else [random_round(source, web, 40) for _ in range(99)]
+                laps = [random_round(source, web, 40) for _ in range(99)]
+                if len(web) < 5:
+                    laps = plainly.simple_rounds(web)
                 expected = math.gcd(*[plainly.price(web, row, lap) for lap in laps])
                 self.assertEqual(expected % max(1, step_of(web, moved)), 0)
                 if len(web) < 5:

@@ -117,7 +117,8 @@ class Timed(unittest.TestCase):
                 expected = 0 if time % 3 else timed_many(web, times, time // 3)
                 self.assertEqual(timed_many(web, tripled, time), expected)
         self.assertEqual([timed_many(LOOPS, (12, 12), time) for time in (11, 12, 13, 24, 36)], [0, 2, 0, 1, 2])
-        self.assertEqual([timed_many(LOOPS, (5, 7), time) for time in (5, 7, 10, 12, 17, 19, 24)], [1, 1, 0, 1, 1, 1, 1])
+        times = (5, 7, 10, 12, 17, 19, 24)
+        self.assertEqual([timed_many(LOOPS, (5, 7), time) for time in times], [1, 1, 0, 1, 1, 1, 1])
 
     def test_against_the_table_of_all_rooms(self):
         # Whatever many rooms: by the plain table of the stretched web.
