@@ -17,7 +17,9 @@ APART = ((1, 1, 0), (0, 1, 1), (1, 0, 1))
 FOUR = ((1, 1, 0, 0), (1, 0, 1, 0), (0, 0, 0, 2), (1, 0, 1, 1))
 RING = ((0, 4, 0, 0), (0, 0, 4, 0), (0, 0, 0, 4), (4, 0, 0, 0))
 FULL_FOUR = ((1,) * 4,) * 4
-SMALL = (G, LOOPS, TWO_STEPS, THREE, APART)
+# Two rooms lead to one another, and not only by way of the first one.
+BOTH_WAYS = ((0, 1, 1), (1, 0, 1), (1, 1, 0))
+SMALL = (G, LOOPS, TWO_STEPS, THREE, APART, BOTH_WAYS)
 WEBS = SMALL + (FOUR, RING, FULL_FOUR) + tuple(random_webs(111, 15, rooms=4, item=3, most_arrows=16))
 
 

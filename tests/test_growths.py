@@ -13,13 +13,17 @@ from tests.samples import ANY_VALUES, G, LOOPS, NO_WEBS, TWO_STEPS, changed_once
 from tests.test_growth import FULL_FOUR, NEARLY_APART, RING, SLOW_RING
 
 THREE = ((1, 1, 0), (0, 0, 1), (1, 1, 0))
+# Their growths are about 5.236 and 6.193, and 5 and 6 are roots of their polynomials, too.
+CLOSE_TO_5 = ((5, 0, 1, 0), (0, 5, 1, 0), (1, 0, 0, 1), (0, 1, 0, 1))
+CLOSE_TO_6 = ((6, 0, 1, 0), (0, 6, 0, 1), (1, 0, 0, 1), (0, 1, 1, 0))
 SAME = (
     (G, G), (G, THREE), (LOOPS, ((1, 1), (1, 1))), (((6,),), RING), (((3,),), ((2, 1), (1, 2))),
     (((3,),), ((1, 2, 0), (0, 1, 2), (2, 0, 1))), (FULL_FOUR, ((6, 6, 12), (6, 6, 12), (6, 6, 12))),
     # The roots of 2, with periods of 2 and 4, and the golden number with another root beside it.
     (TWO_STEPS, ((0, 1), (2, 0))), (TWO_STEPS, ((0, 1, 1), (1, 0, 0), (1, 0, 0))),
     (TWO_STEPS, ((0, 1, 0, 1), (1, 0, 0, 0), (0, 1, 0, 1), (0, 0, 1, 0))),
-    (((0, 4), (1, 0)), LOOPS), (G, ((0, 1, 1), (1, 0, 0), (1, 1, 0))),
+    (((0, 4), (1, 0)), LOOPS), (CLOSE_TO_5, ((5, 1), (1, 1))), (CLOSE_TO_6, ((6, 1), (1, 1))),
+    (((5, 0, 1, 1), (0, 5, 0, 2), (1, 0, 1, 2), (0, 1, 2, 1)), ((5, 2), (1, 3))), (G, ((0, 1, 1), (1, 0, 0), (1, 1, 0))),
     (((1, 2), (1, 1)), ((1, 0, 1), (1, 1, 1), (0, 2, 0))),
 )
 
@@ -129,8 +133,10 @@ class Unlike(unittest.TestCase):
         self.assertGreater(near, 40)
 
     def test_common_roots_that_are_not_the_growth(self):
-        # The roots 3 and -1, and 5 and -1; 2 and -2, and 3 and -2.
+        # The roots 3 and -1, and 5 and -1; 2 and -2, and 3 and -2; or the growth of one web is
+        # another root of the other web.
         for one, other in ((((1, 2), (2, 1)), ((2, 3), (3, 2))), (((0, 4), (1, 0)), ((0, 6), (1, 1))),
+                           (CLOSE_TO_5, ((5,),)), (CLOSE_TO_5, ((0, 5), (5, 0))), (CLOSE_TO_6, ((6,),)),
                            (((2, 1), (1, 2)), LOOPS), (((2, 2, 0), (0, 2, 2), (2, 0, 2)), ((2, 1), (1, 2)))):
             for first, second in ((one, other), (other, one)):
                 paper = judge_growths(first, second)
