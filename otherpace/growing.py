@@ -114,6 +114,11 @@ def number_between(one, other):
         bits += 2
 
 
+def grows_less(one, other):
+    """Whether the first one of two webs has less growth."""
+    return growths_differ(one, other) and number_between(one, other)[0]
+
+
 def table_between(one, other):
     """For two webs with the same growth a table F as in [4.3].
 

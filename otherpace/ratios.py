@@ -21,3 +21,33 @@ def without_divisor(row):
     """The tuple of the items, not all of them 0, divided by their greatest common divisor."""
     divisor = common_divisor(row)
     return tuple([item // divisor for item in row])
+
+
+def integer_power(base, exponent):
+    """The power of an integer with an exponent from 0 on."""
+    result = 1
+    square = base
+    left = exponent
+    while left > 0:
+        if left & 1:
+            result = result * square
+        left = left // 2
+        # The last square would not be needed, and is the most costly one.
+        if left > 0:
+            square = square * square
+    return result
+
+
+def number_power(number, exponent):
+    """The power of a number with an exponent from 0 on, as a pair of a top and a bottom."""
+    return (integer_power(number[0], exponent), integer_power(number[1], exponent))
+
+
+def is_at_most(one, other):
+    """Whether a number is at most another one."""
+    return one[0] * other[1] <= other[0] * one[1]
+
+
+def times_number(times, number):
+    """An integer times a number, as a pair of a top and a bottom."""
+    return (times * number[0], number[1])

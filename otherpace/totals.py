@@ -23,6 +23,28 @@ def told_times_length(bottom, length, modulus):
     return remainder(sum(parts), modulus)
 
 
+def told_totals(web, most):
+    """The list of the numbers of told rounds for all lengths from 1 to most."""
+    left = closed_totals(bottom_without_zeros(web), most)
+    for length in range(1, most + 1):
+        # By now the rounds that are repetitions of shorter ones are taken away here.
+        for longer in range(2 * length, most + 1, length):
+            left[longer - 1] -= left[length - 1]
+    return [many // length for length, many in enumerate(left, start=1)]
+
+
+def closed_totals(bottom, most):
+    """The list of the closed numbers for all lengths from 1 to most, by the fraction's bottom."""
+    found = []
+    for length in range(1, most + 1):
+        # I. Newton's sums; behind the polynomial's end its own item is missing.
+        total = -length * bottom[length] if length < len(bottom) else 0
+        for at in range(1, min(length, len(bottom))):
+            total -= bottom[at] * found[length - at - 1]
+        found.append(total)
+    return found
+
+
 def signed_divisors(number):
     """The list of the pairs (d, mu(d)) for all divisors d of an integer from 1 on, without
     those for which mu(d) is 0."""

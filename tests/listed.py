@@ -4,13 +4,16 @@ that wrong arguments raise, in the sequence in which the document names them."""
 import importlib
 
 from otherpace import errors
-from tests import plainly
+from tests import plainly, taken
 from tests.right import is_row
 from tests.samples import G, LOOPS
 
 LAP = ((1, 0, 0), (0, 1, 0), (1, 0, 0), (0, 1, 0))
 ROUND = ("round", ((0, 1, 0), (1, 0, 0)))
 ROWS = (G, (5, 2, 1), (1, 2, 3))
+AFTER = (((1, 2), (1, 0)), ("after", 0, 1, 1))
+CHAIN = (G, (("pass", 1), ("stretch", 0, 0), ("turn", (1, 0))))
+BOUND = (8, (3, 2), (4, 3), (2, 1), (1,), (2, 1), (1,), 1)
 
 
 def is_from(thing, least):
@@ -44,7 +47,51 @@ RULES = {
     "integer": ("BadNumber", lambda web, thing: is_from(thing, 0)),
     "m": ("BadNumber", lambda web, thing: is_from(thing, 1)),
     "number": ("BadNumber", lambda web, thing: is_number(thing)),
+    "told": ("BadRound", plainly.is_told_round),
+    "row": ("BadRow", lambda web, thing: is_row(thing, len(web))),
 }
+
+
+def unfit_pair(args, at):
+    """What the functions of part 5 raise for two webs."""
+    one, other = args[:2]
+    if plainly.period(other) != 1:
+        return errors.BadPeriod(plainly.period(other))
+    return None if plainly.growth(other) > plainly.growth(one) + 1e-6 else errors.NotMore()
+
+
+def unfit_deed(args, at):
+    if not taken.is_deed(args[0], args[at]):
+        return errors.BadDeed(args[at])
+    return errors.NoDeed(args[at]) if taken.done(args[0], args[at]) is None else None
+
+
+def unfit_chain(args, at):
+    if not isinstance(args[at], tuple):
+        return errors.BadChain(-1)
+    web = args[0]
+    for number, deed in enumerate(args[at]):
+        web = taken.done(web, deed) if taken.is_deed(web, deed) else None
+        if web is None:
+            return errors.BadChain(number)
+    return None
+
+
+def unfit_back(args, at):
+    """For the rounds of what a deed or a chain makes."""
+    web = args[0]
+    for deed in (args[1],) if taken.is_deed(web, args[1]) else args[1]:
+        web = taken.done(web, deed)
+    return None if plainly.is_told_round(web, args[at]) else errors.BadRound(args[at])
+
+
+def unfit_prices(args, at):
+    return None if args[at][0] in ("after", "before", "pass", "turn", "stretch") else errors.NoPrices(args[at])
+
+
+# What cannot be told by the web and one value alone.
+OTHER_RULES = {"pair": unfit_pair, "deed": unfit_deed, "chain": unfit_chain, "back": unfit_back,
+               "priced": unfit_prices}
 # File, name, parameters, arguments that fit, and for each argument that is checked its place
 # and its rule.
 LISTED = (
@@ -113,6 +160,37 @@ LISTED = (
     ("growth", "growth_floor", "(web, bits)", (G, 3), ((0, "web"), (1, "integer"))),
     ("stretching", "stretched", "(web, times)", (G, (1, 2, 3)), ((0, "web"), (1, "times"))),
     ("stretching", "timed_many", "(web, times, time)", (G, (1, 2, 3), 5), ((0, "web"), (1, "times"), (2, "length"))),
+    ("within", "judge_within", "(one, other)", (G, LOOPS), ((0, "web"), (1, "web"), (1, "pair"))),
+    ("within", "within_holds", "(one, other, thing)", (((0, 2), (1, 0)), LOOPS, ("within", BOUND)),
+     ((0, "web"), (1, "web"), (1, "pair"))),
+    ("within", "is_bound", "(one, other, thing)", (((0, 2), (1, 0)), LOOPS, BOUND),
+     ((0, "web"), (1, "web"), (1, "pair"))),
+    ("within", "spare", "(one, other, length)", (G, LOOPS, 5), ((0, "web"), (1, "web"), (1, "pair"), (2, "length"))),
+    ("within", "barring_lengths", "(one, other)", (((0, 2), (1, 0)), LOOPS), ((0, "web"), (1, "web"), (1, "pair"))),
+    ("deeds", "is_deed", "(web, thing)", AFTER, ((0, "web"),)),
+    ("deeds", "can_be_done", "(web, deed)", AFTER, ((0, "web"),)),
+    ("deeds", "done", "(web, deed)", AFTER, ((0, "web"), (1, "deed"))),
+    ("deeds", "made", "(web, chain)", CHAIN, ((0, "web"), (1, "chain"))),
+    ("carrying", "walks_of", "(web, deed)", AFTER, ((0, "web"), (1, "deed"))),
+    ("carrying", "carried", "(web, deed, lap, *, most=4096)", AFTER + (((0, 1, 0), (1, 0, 0)),),
+     ((0, "web"), (1, "deed"), (2, "told"))),
+    ("carrying", "carried_back", "(web, deed, lap, *, most=4096)", AFTER + (((0, 0, 1), (0, 1, 0), (1, 0, 0)),),
+     ((0, "web"), (1, "deed"), (2, "back"))),
+    ("carrying", "chain_carried", "(web, chain, lap, *, most=4096)", CHAIN + (((0, 1, 0), (1, 0, 0)),),
+     ((0, "web"), (1, "chain"), (2, "told"))),
+    ("carrying", "chain_carried_back", "(web, chain, lap, *, most=4096)", CHAIN + (((0, 1, 0), (1, 1, 0), (1, 0, 0)),),
+     ((0, "web"), (1, "chain"), (2, "back"))),
+    ("carrying", "prices_carried", "(web, deed, prices)", AFTER + ((1, 2, 3, 4),),
+     ((0, "web"), (1, "deed"), (2, "prices"), (1, "priced"))),
+    ("groups", "divisors_of", "(web)", (((4,),),), ((0, "web"),)),
+    ("groups", "sign_of", "(web)", (G,), ((0, "web"),)),
+    ("groups", "count_of", "(web, m)", (((4,),), 6), ((0, "web"), (1, "m"))),
+    ("groups", "stairs", "(web)", (G,), ((0, "web"),)),
+    ("groups", "plain_row", "(web, row)", (((2, 1), (1, 2)), (5, 7)), ((0, "web"), (1, "row"))),
+    ("groups", "judge_led", "(web, one, other)", (G, (0, 0), (1, 0)), ((0, "web"), (1, "row"), (2, "row"))),
+    ("groups", "led_holds", "(web, one, other, thing)", (G, (0, 0), (1, 0), ("led", (-1, -1))),
+     ((0, "web"), (1, "row"), (2, "row"))),
+    ("groups", "image", "(web, deed, row)", AFTER + ((5, 7),), ((0, "web"), (1, "deed"), (2, "row"))),
 )
 
 
@@ -123,6 +201,11 @@ def function_of(module, name):
 def expected_error(args, checks):
     """The error that the document names first, None if all arguments fit."""
     for at, rule in checks:
+        if rule in OTHER_RULES:
+            wrong = OTHER_RULES[rule](args, at)
+            if wrong is not None:
+                return wrong
+            continue
         name, fits = RULES[rule]
         if not fits(args[0], args[at]):
             return getattr(errors, name)(args[at])

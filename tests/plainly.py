@@ -1,6 +1,8 @@
 """The document's words once more, as plainly as can be and however slowly, to compare with."""
 
+import functools
 import itertools
+import math
 import re
 from fractions import Fraction
 
@@ -169,3 +171,20 @@ def price(web, prices, walk):
 
 def slope(web, heights):
     return tuple(heights[j] - heights[i] for i, j, _ in arrows(web))
+
+
+def period(web):
+    """By the closed numbers of more lengths than simple rounds can have."""
+    closed = closed_numbers(web, 2 * len(web))
+    return math.gcd(*[length for length, many in enumerate(closed, 1) if many])
+
+
+@functools.lru_cache
+def growth(web):
+    """Nearly the growth, as a float."""
+    row = [1.0] * len(web)
+    for _ in range(1000):
+        # With one loop more for each room there is no period in the way.
+        led = [worth + sum(item * other for item, other in zip(line, row)) for worth, line in zip(row, web)]
+        row = [worth / max(led) for worth in led]
+    return sum(web[0][j] * row[j] for j in range(len(web))) / row[0]

@@ -185,3 +185,48 @@ def growths(one, other, thing):
                  for i in range(len(one))]
         return left == right
     return False
+
+
+def bound(one, other, thing):
+    if type(thing) is not tuple or len(thing) != 8:
+        return False
+    length, above, row_above, below, row_below, most, row_most, exponent = thing
+    if type(length) is not int or type(exponent) is not int or not 1 <= exponent <= 40 or not all(
+            map(is_number, (above, below, most))):
+        return False
+    for web, number, row, allowed in ((one, above, row_above, {-1, 0}), (other, below, row_below, {0, 1}),
+                                      (other, most, row_most, {-1, 0})):
+        shown = signs(web, number, row)
+        if shown is None or not shown <= allowed:
+            return False
+    a, b, c = Fraction(*above), Fraction(*below), Fraction(*most)
+    if a > b or not all(map(all, plainly.power(other, exponent))) or not exponent <= length <= 4000:
+        return False
+    if (length + 2) * c > length * b ** 2:
+        return False
+    return all(2 * len(one) * a ** K <= b ** (K - exponent)
+               and K ** 2 * len(other) ** 2 * c ** K <= b ** (2 * (K - exponent)) for K in (length, length + 1))
+
+
+def within(one, other, thing):
+    """Only for lengths that are not too great to be counted one after the other."""
+    if is_pair(thing, "within") and bound(one, other, thing[1]):
+        told = [plainly.told_numbers(plainly.closed_numbers(web, thing[1][0] - 1)) for web in (one, other)]
+        return all(less <= more for less, more in zip(*told))
+    if not is_pair(thing, "length") or type(thing[1]) is not int or not 1 <= thing[1] <= 4000:
+        return False
+    return told_number(one, thing[1]) > told_number(other, thing[1])
+
+
+def led_together(web, one, other, thing):
+    rooms = range(len(web))
+    less = [[int(i == j) - web[i][j] for j in rooms] for i in rooms]
+    change = [y - x for x, y in zip(one, other)]
+    if is_pair(thing, "led") and is_row(thing[1], len(web)):
+        return [sum(thing[1][i] * less[i][j] for i in rooms) for j in rooms] == change
+    if type(thing) is not tuple or len(thing) != 3 or type(thing[0]) is not str or thing[0] != "apart":
+        return False
+    _, m, row = thing
+    if type(m) is not int or m < 0 or not is_row(row, len(web)):
+        return False
+    return all(is_multiple(item, m) for item in led(less, row)) and not is_multiple(led([change], row)[0], m)

@@ -8,7 +8,7 @@ import unittest
 
 from otherpace import webs
 from otherpace.errors import PaceError, TooMany, TooManyRooms
-from tests import plainly
+from tests import plainly, taken
 from tests.listed import LISTED, expected_error, function_of
 from tests.right import is_row
 from tests.samples import ANY_VALUES, LOOPS, NO_WEBS, changed_once
@@ -28,7 +28,12 @@ def outcome(function, *args, **named):
 
 
 def is_beyond(function, thing):
-    """Whether a value is an integer, counts or a web that is too great to be passed as such."""
+    """Whether a value is an integer, counts, a deed, a chain or a web that is too great to be passed
+    as such."""
+    if isinstance(thing, tuple) and {"deed", "chain"} & set(inspect.signature(function).parameters):
+        deeds = [part for part in (thing,) + thing if taken.is_deed(((1,) * 9,) * 9, part)]
+        if any(len(deed) == 4 and deed[3] > 20 for deed in deeds):
+            return True
     if isinstance(thing, int):
         return abs(thing) > 10 ** 6
     if "counts" in inspect.signature(function).parameters and is_row(thing, 3):

@@ -117,7 +117,11 @@ class Language(unittest.TestCase):
                 if isinstance(node, ast.Expr):
                     self.assertEqual(at, 0, stem)
                 if isinstance(node, ast.Assign):
-                    ast.literal_eval(node.value)
+                    for part in ast.walk(node.value):
+                        # Only functions that are defined above; they are taken for their names here.
+                        if isinstance(part, ast.Name):
+                            self.assertIn(part.id, seen, stem)
+                    ast.literal_eval(re.sub(r":\s*[a-z_]+\b", ": 0", ast.unparse(node.value)))
                     seen.extend(target.id for target in node.targets)
                 if isinstance(node, (ast.FunctionDef, ast.ClassDef)):
                     seen.append(node.name)
