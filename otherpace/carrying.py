@@ -24,7 +24,7 @@ def walks_of(web, deed):
         # Only the first arrow's walk has two arrows, and the others lose at most one number.
         return tuple([tuple(longer(result, deed, (arrow,), 2)) for arrow in arrows_of(web)])
     if deed[0] in REFINING:
-        return walks_for(result, (deed[0].removeprefix("un"), *deed[1:]))
+        return walks_for(result, (deed[0].removeprefix("un"),) + deed[1:])
     return walks_for(web, deed)
 
 
@@ -79,17 +79,18 @@ def chain_carried(web, chain, lap, *, most=4096):
     check_web(web)
     webs = webs_on(web, chain)
     check_told(web, lap)
-    return led_over(webs, chain, lap, most)
+    found = led_over(webs, chain, lap, most)
+    check_many(found, most, most)
+    return found
 
 
 def led_over(webs, chain, lap, most):
-    """The told round of the last web that a told round of the first one becomes."""
+    """The told round of the last web that a told round of the first one becomes, however long."""
     limit = max(most, MOST_ON_THE_WAY)
     found = lap
     for at, deed in enumerate(chain):
         found = led_on(webs[at:at + 2], deed, found, limit)
         check_many(found, limit, most)
-    check_many(found, most, most)
     return found
 
 
@@ -98,17 +99,18 @@ def chain_carried_back(web, chain, lap, *, most=4096):
     check_web(web)
     webs = webs_on(web, chain)
     check_told(webs[-1], lap)
-    return led_over_back(webs, chain, lap, most)
+    found = led_over_back(webs, chain, lap, most)
+    check_many(found, most, most)
+    return found
 
 
 def led_over_back(webs, chain, lap, most):
-    """The told round of the first web that becomes a told round of the last one."""
+    """The told round of the first web that becomes a told round of the last one, however long."""
     limit = max(most, MOST_ON_THE_WAY)
     found = lap
     for at in reversed(range(len(chain))):
         found = led_back(webs[at:at + 2], chain[at], found, limit)
         check_many(found, limit, most)
-    check_many(found, most, most)
     return found
 
 

@@ -5,10 +5,14 @@ the powers of a web can be longer, so they are written and read in blocks.
 """
 
 BLOCK_DIGITS = 64
+# Integers with fewer bits have surely not too many digits.
+SHORT_BITS = 13000
 
 
 def natural_word(number):
     """An integer from 0 on as Python writes it, however long it is."""
+    if number.bit_length() < SHORT_BITS:
+        return str(number)
     block = 10 ** 64
     parts = []
     left = number

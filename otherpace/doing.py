@@ -50,11 +50,19 @@ def webs_on(web, chain):
     """
     if not isinstance(chain, tuple):
         raise BadChain(-1)
+    webs = webs_so_far(web, chain)
+    if len(webs) <= len(chain):
+        raise BadChain(len(webs) - 1)
+    return webs
+
+
+def webs_so_far(web, chain):
+    """The same for any tuple, but only up to the first item that is no deed that can be done."""
     webs = [web]
-    for number, deed in enumerate(chain):
+    for deed in chain:
         result = done_of(webs[-1], deed) if is_deed_of(webs[-1], deed) else ()
         if not result:
-            raise BadChain(number)
+            break
         webs.append(result)
     return webs
 

@@ -4,7 +4,7 @@ that wrong arguments raise, in the sequence in which the document names them."""
 import importlib
 
 from otherpace import errors
-from tests import plainly, taken
+from tests import plainly, right, taken
 from tests.right import is_row
 from tests.samples import G, LOOPS
 
@@ -13,6 +13,7 @@ ROUND = ("round", ((0, 1, 0), (1, 0, 0)))
 ROWS = (G, (5, 2, 1), (1, 2, 3))
 AFTER = (((1, 2), (1, 0)), ("after", 0, 1, 1))
 CHAIN = (G, (("pass", 1), ("stretch", 0, 0), ("turn", (1, 0))))
+ALIKE = ("alike", (("pass", 1),), ())
 BOUND = (8, (3, 2), (4, 3), (2, 1), (1,), (2, 1), (1,), 1)
 
 
@@ -89,9 +90,38 @@ def unfit_prices(args, at):
     return None if args[at][0] in ("after", "before", "pass", "turn", "stretch") else errors.NoPrices(args[at])
 
 
+def unfit_rooms(args, at):
+    """For a number of rooms behind a web, or from 1 on."""
+    least = len(args[0]) if at > 0 else 1
+    return None if is_from(args[at], least) and args[at] <= 6 else errors.BadRooms(args[at])
+
+
+def unfit_group(args, at):
+    n, group = args[:2]
+    fits = type(group) is tuple and len(group) <= n and all(is_from(item, 0) and item != 1 for item in group)
+    if fits and len(group) == n and group[0] == 0:
+        fits = False
+    if fits and any(low == 0 != high or low and high % low for low, high in zip(group, group[1:])):
+        fits = False
+    return None if fits else errors.BadDivisors(group)
+
+
+def unfit_sign(args, at):
+    n, group, sense = args
+    if type(sense) is int and sense in (-1, 0, 1) and (sense == 0) == (0 in group) and (n > 1 or sense == -1):
+        return None
+    return errors.BadSign(sense)
+
+
+def unfit_paper(args, at):
+    fits = right.alike(args[0], args[1], args[at]) and args[at][0] == "alike"
+    return None if fits else errors.BadPaper(args[at])
+
+
 # What cannot be told by the web and one value alone.
 OTHER_RULES = {"pair": unfit_pair, "deed": unfit_deed, "chain": unfit_chain, "back": unfit_back,
-               "priced": unfit_prices}
+               "priced": unfit_prices, "rooms": unfit_rooms, "group": unfit_group, "sign": unfit_sign,
+               "paper": unfit_paper}
 # File, name, parameters, arguments that fit, and for each argument that is checked its place
 # and its rule.
 LISTED = (
@@ -190,6 +220,14 @@ LISTED = (
     ("groups", "judge_led", "(web, one, other)", (G, (0, 0), (1, 0)), ((0, "web"), (1, "row"), (2, "row"))),
     ("groups", "led_holds", "(web, one, other, thing)", (G, (0, 0), (1, 0), ("led", (-1, -1))),
      ((0, "web"), (1, "row"), (2, "row"))),
+    ("plainwebs", "plain_web", "(n, group, sense)", (3, (2, 6), -1), ((0, "rooms"), (1, "group"), (2, "sign"))),
+    ("plainwebs", "is_plain_web", "(thing)", (((2, 1), (2, 2)),), ()),
+    ("alike", "are_alike", "(one, other)", (G, LOOPS), ((0, "web"), (1, "web"))),
+    ("alike", "judge_alike", "(one, other)", (G, LOOPS), ((0, "web"), (1, "web"))),
+    ("alike", "alike_holds", "(one, other, thing)", (G, LOOPS, ALIKE), ((0, "web"), (1, "web"))),
+    ("alike", "plain_chain", "(web, n)", (G, 3), ((0, "web"), (1, "rooms"))),
+    ("alike", "gone_over", "(one, other, paper, lap, *, most=4096)", (G, LOOPS, ALIKE, ((0, 1, 0), (1, 0, 0))),
+     ((0, "web"), (1, "web"), (2, "paper"), (3, "told"))),
     ("groups", "image", "(web, deed, row)", AFTER + ((5, 7),), ((0, "web"), (1, "deed"), (2, "row"))),
 )
 

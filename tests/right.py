@@ -1,8 +1,10 @@
 """Which papers are right: the document's words once more, to compare with."""
 
+import itertools
+import math
 from fractions import Fraction
 
-from tests import plainly
+from tests import plainly, taken
 
 
 def is_pair(thing, kind):
@@ -230,3 +232,67 @@ def led_together(web, one, other, thing):
     if type(m) is not int or m < 0 or not is_row(row, len(web)):
         return False
     return all(is_multiple(item, m) for item in led(less, row)) and not is_multiple(led([change], row)[0], m)
+
+
+def less_table(web):
+    """The table 1 - A."""
+    return [[int(i == j) - item for j, item in enumerate(row)] for i, row in enumerate(web)]
+
+
+def divisors(web):
+    """By the greatest common divisors of all determinants of so many rows and columns."""
+    table = less_table(web)
+    found = [1]
+    for size in range(1, len(web) + 1):
+        choices = list(itertools.combinations(range(len(web)), size))
+        found.append(math.gcd(*[plainly.determinant([[table[i][j] for j in columns] for i in rows])
+                                for rows in choices for columns in choices]))
+    quotients = [high // low if high else 0 for low, high in zip(found, found[1:])]
+    return tuple(item for item in quotients if item != 1)
+
+
+def group(web):
+    """The divisors and the sign."""
+    worth = plainly.determinant(less_table(web))
+    return divisors(web), (worth > 0) - (worth < 0)
+
+
+def plain_web(n, group_divisors, sense):
+    """Row by row as [8.3] tells."""
+    d = [1] * (n - len(group_divisors)) + list(group_divisors)
+    if n == 1:
+        return ((d[0] + 1,),)
+    e = d[1:-1] + [d[-1] * sense * (-1) ** n]
+    table = [[d[0]] * n]
+    for i in range(1, n):
+        h = d[0] if e[i - 1] >= 0 else d[0] - e[i - 1]
+        table.append([h + e[i - 1] if j == i else h for j in range(n)])
+    return tuple(tuple(item + (i == j) for j, item in enumerate(row)) for i, row in enumerate(table))
+
+
+def chain_made(web, chain):
+    """What a chain makes of a web, None if it is no chain that can be done."""
+    if type(chain) is not tuple:
+        return None
+    for deed in chain:
+        web = taken.by_table(web, deed) if taken.is_deed(web, deed) else None
+        if web is None:
+            return None
+    return web
+
+
+def alike(one, other, thing):
+    if type(thing) is not tuple or len(thing) not in (3, 4) or type(thing[0]) is not str:
+        return False
+    if thing[0] == "alike" and len(thing) == 3:
+        made = chain_made(one, thing[1])
+        return made is not None and made == chain_made(other, thing[2])
+    if not all(type(item) is int for item in thing[1:]):
+        return False
+    groups = (group(one), group(other))
+    if thing[0] == "sign" and len(thing) == 3:
+        return thing[1] != thing[2] and thing[1:] == tuple(sign for _, sign in groups)
+    if thing[0] == "count" and len(thing) == 4 and thing[1] >= 2:
+        counts = tuple(math.prod(math.gcd(thing[1], divisor) for divisor in row) for row, _ in groups)
+        return thing[2] != thing[3] and thing[2:] == counts
+    return False

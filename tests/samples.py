@@ -2,7 +2,9 @@
 
 import random
 
+from otherpace.console import Console
 from otherpace.errors import BadWeb, TooManyRooms
+from otherpace.house import House
 from tests import plainly
 
 G = ((1, 1), (1, 0))
@@ -16,6 +18,10 @@ WEBS = (G, LOOPS, ((7,),), TWO_STEPS, LONG_RING, FULL, EIGHT, HUGE,
         ((1, 1, 0), (0, 0, 1), (1, 1, 0)), ((0, 1, 1), (2, 0, 0), (1, 0, 1)))
 NO_WEBS = (((0,),), ((1,),), ((0, 1), (1, 0)), ((1, 1), (0, 1)), ((2, 0), (0, 2)), ((0, 0), (0, 0)),
            ((0, 1, 0), (0, 0, 1), (1, 0, 0)), ((2, 1), (0, 0)), ((0, 0), (1, 3)))
+
+
+HOUSE = House.read("house\nis g\nweb 2\n1 1\n1 0\nprices p g 5 2 1\nleast p 3 2")
+CONSOLE = Console(HOUSE)
 
 
 def nest(depth):
@@ -34,8 +40,10 @@ ANY_VALUES = (
     ((1,) * 9,) * 9, ((1, 1), (1, True)), ((1, 1), [1, 0]), [(1, 1), (1, 0)], ((1, 1), (1, 0), (0, 0)),
     ((1, 1), (1,)), ((1, 1), (1, 0), ()), ((1, 1), "10"), ((1, 1), {0: 1, 1: 0}),
     BadWeb(3), TooManyRooms(), (BadWeb(3),), ((0, 0, 0),), (0, 0, 0), ((0, 0),), ((0, 0, 0, 0),),
+    HOUSE, CONSOLE, House(), (HOUSE,), [HOUSE, CONSOLE], ((HOUSE, 1), (1, CONSOLE)), (HOUSE, HOUSE, HOUSE),
 )
-REPLACEMENTS = (None, True, False, -1, 0, 1, 9, 10 ** 39, "1", "", (), (0,), [], [1], {}, ((1,),), BadWeb(1))
+REPLACEMENTS = (None, True, False, -1, 0, 1, 9, 10 ** 39, "1", "", (), (0,), [], [1], {}, ((1,),), BadWeb(1), HOUSE,
+                CONSOLE)
 
 
 def changed_once(value):

@@ -178,3 +178,34 @@ def all_deeds(web, times=(1,)):
     yield from (("stretch", i, j) for i in rooms for j in rooms)
     yield ("turn", tuple(reversed(rooms)))
     yield ("turn", tuple(rooms[1:]) + (0,))
+
+
+def by_table(web, deed):
+    """The web that a deed makes, None if it cannot be done: by tables, one time after the other."""
+    kind = deed[0]
+    if kind == "turn":
+        return tuple(tuple(web[i][j] for j in deed[1]) for i in deed[1])
+    if kind == "stretch":
+        return done(web, deed)
+    table = [list(row) for row in web]
+    rooms = range(len(web))
+    if kind == "pass":
+        if web[deed[1]][deed[1]] or len(web) < 2:
+            return None
+        rooms = [room for room in rooms if room != deed[1]]
+        return tuple(tuple(web[i][j] + web[i][deed[1]] * web[deed[1]][j] for j in rooms) for i in rooms)
+    _, i, j, times = deed
+    for _ in range(times):
+        if not kind.startswith("un") and table[i][j] < 1:
+            return None
+        for at in rooms:
+            sign = -1 if kind.startswith("un") else 1
+            if kind.endswith("after"):
+                table[i][at] += sign * (table[j][at] - (at == j))
+            else:
+                table[at][j] += sign * (table[at][i] - (at == i))
+        if kind.startswith("un") and table[i][j] < 1 or min(map(min, table)) < 0:
+            return None
+    result = tuple(map(tuple, table))
+    # On the way the rooms are joined as well as in the end, or better.
+    return result if plainly.is_web(result) else None

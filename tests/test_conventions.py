@@ -8,6 +8,7 @@ import unittest
 
 from otherpace import webs
 from otherpace.errors import PaceError, TooMany, TooManyRooms
+from otherpace.house import House
 from tests import plainly, taken
 from tests.listed import LISTED, expected_error, function_of
 from tests.right import is_row
@@ -68,7 +69,7 @@ class Errors(unittest.TestCase):
             answer = outcome(function, *args)
             if answer in LAST_ERRORS:
                 self.assertIn(function.__name__, ("rounds", "stretched"))
-            elif function.__name__.startswith("is_") or function.__name__.endswith("_holds"):
+            elif function.__name__.startswith(("is_", "are_")) or function.__name__.endswith("_holds"):
                 self.assertIsInstance(answer, bool)
             else:
                 self.assertFalse(isinstance(answer, tuple) and any(map(inspect.isclass, answer[:1])), (function, args))
@@ -113,7 +114,9 @@ class NothingChanges(unittest.TestCase):
                     copied = copy.deepcopy(value)
                     first = outcome(function, *passed)
                     self.assertEqual(repr(passed), shown)
-                    if not isinstance(value, (tuple, PaceError)):
+                    if isinstance(value, House):
+                        self.assertEqual((value, value.deals()), (copied, copied.deals()))
+                    elif isinstance(value, dict):
                         self.assertEqual(value, copied)
                     self.assertEqual(outcome(function, *passed), first)
 

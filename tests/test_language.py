@@ -168,8 +168,9 @@ class Language(unittest.TestCase):
                     self.assertNotIn(node.arg, own, f"{stem}.py:{node.lineno}")
 
     def test_builtins(self):
+        decorators = [item for _, node in nodes(ast.FunctionDef) for item in node.decorator_list]
         for where, node in nodes(ast.Name):
-            if hasattr(builtins, node.id):
+            if hasattr(builtins, node.id) and node not in decorators:
                 self.assertIn(node.id, BUILTINS, where)
 
     def test_methods(self):
