@@ -1,6 +1,6 @@
 """Webs that are alike but for names and paces."""
 
-from otherpace.blocks import finish_rows, square_block
+from otherpace.blocks import square_block
 from otherpace.carrying import check_many, check_told, led_over, led_over_back
 from otherpace.doing import webs_so_far
 from otherpace.errors import BadPaper, BadRooms
@@ -57,14 +57,13 @@ def passed_way(web):
 
 def go_plain(way, rooms):
     """Go on to the plain web with so many rooms, at least those of the web, if each room has an
-    arrow to itself."""
-    if rooms == 1:
-        return
+    arrow to itself and there are at least two of them."""
     fill(way)
     add_rooms(way, rooms)
     level_all(way)
     square_block(way)
-    finish_rows(way)
+    # All items are multiples of those of row 0, and the rows of a plain web cannot be lower.
+    way.lower_rows()
 
 
 def plain_chain(web, n):

@@ -123,12 +123,3 @@ def bring_to(way, at, i, j):
         add_block_column(way, at, j, sign)
         add_block_column(way, j, at, -sign)
         add_block_column(way, at, j, sign)
-
-
-def finish_rows(way):
-    """Bring the rows of the block to the height that they have in a plain web."""
-    first = way.table[0][1]
-    for i in range(1, len(way.table)):
-        item = block_item(way, i, i)
-        height = first if item >= 0 else first - item
-        way.add_row(i, 0, (height - way.table[i][0]) // first)

@@ -5,7 +5,7 @@ from otherpace.growth import shows_at_most
 from otherpace.kinds import is_integer_below, is_integer_from, is_number
 from otherpace.numbers import MOST_LENGTH
 from otherpace.polynomials import bottom_without_zeros
-from otherpace.ratios import is_at_most, lowest, number_power, times_number
+from otherpace.ratios import is_at_most, lowest, number_power, number_product, times_number
 from otherpace.totals import told_totals
 
 MOST_EXPONENT = 40
@@ -68,21 +68,24 @@ def least_length(sizes, numbers, exponent):
 
 def are_far_enough(sizes, numbers, exponent, length):
     """Whether a length fulfils the conditions of a bound that depend on it."""
-    _, below, above = numbers
+    above_one, below, above = numbers
     if not is_at_most(times_number(length + 2, above), times_number(length, number_power(below, 2))):
         return False
-    return all([are_far_at(sizes, numbers, exponent, place) for place in (length, length + 1)])
+    powers = [number_power(above_one, length), number_power(below, length - exponent), number_power(above, length)]
+    if not are_far_at(sizes, powers, length):
+        return False
+    next_powers = [number_product(power, number) for power, number in zip(powers, numbers)]
+    return are_far_at(sizes, next_powers, length + 1)
 
 
-def are_far_at(sizes, numbers, exponent, length):
-    """Whether both conditions of a bound about powers are fulfilled for a length from the
-    exponent on."""
-    above_one, below, above = numbers
-    least = number_power(below, length - exponent)
-    if not is_at_most(times_number(2 * sizes[0], number_power(above_one, length)), least):
+def are_far_at(sizes, powers, length):
+    """Whether both conditions of a bound about powers are fulfilled for a length K, by a^K,
+    b^(K - s) and c^K."""
+    of_one, least, of_other = powers
+    if not is_at_most(times_number(2 * sizes[0], of_one), least):
         return False
     times = length * length * sizes[1] * sizes[1]
-    return is_at_most(times_number(times, number_power(above, length)), number_power(least, 2))
+    return is_at_most(times_number(times, of_other), number_product(least, least))
 
 
 def is_bound_of(one, other, thing):

@@ -14,9 +14,9 @@ from otherpace.words import is_name
 
 def is_change(thing):
     """Whether any value is a tuple with the name of a change and as many items as it has."""
-    if not isinstance(thing, tuple) or len(thing) == 0 or not is_key(ITEMS, thing[0]):
+    if not isinstance(thing, tuple) or len(thing) == 0 or not isinstance(thing[0], str):
         return False
-    return len(thing) == ITEMS[thing[0]]
+    return thing[0] in ITEMS and len(thing) == ITEMS[thing[0]]
 
 
 def changed(kept, change):

@@ -82,10 +82,9 @@ def with_row(web, i, j, times):
 def after_done(web, deed):
     """What "after" makes of a web."""
     _, i, j, times = deed
-    # Where an arrow leads from j to j, each time one more comes for the one that is taken out.
-    least = 1 if web[j][j] > 0 else times
-    # On the way no rooms are joined less well than in the end, so only the end is looked at.
-    return web_or_nothing(with_row(web, i, j, times)) if web[i][j] >= least else ()
+    # On the way there are not less arrows from i to j than in the end, or at least one, and no rooms
+    # are joined less well; so only the end is looked at.
+    return web_or_nothing(with_row(web, i, j, times)) if web[i][j] > 0 else ()
 
 
 def unafter_done(web, deed):

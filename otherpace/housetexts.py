@@ -63,7 +63,8 @@ def web_told(lines, start):
         raise BadText(start + 1)
     end = start + first_bad_line(lines[start:], many)
     table = tuple([row_of(line) for line in lines[start + 1:end - 1]])
-    if len(table) < many or not is_web(table):
+    # If rows are missing, it is no web either.
+    if not is_web(table):
         raise BadText(end)
     return table
 

@@ -51,3 +51,8 @@ def is_at_most(one, other):
 def times_number(times, number):
     """An integer times a number, as a pair of a top and a bottom."""
     return (times * number[0], number[1])
+
+
+def number_product(one, other):
+    """The product of two numbers, as a pair of a top and a bottom."""
+    return (one[0] * other[0], one[1] * other[1])

@@ -133,6 +133,13 @@ class Papers(unittest.TestCase):
             self.assertIs(alike_holds(G, other, thing), holds, thing)
             self.assertIs(right.alike(G, other, thing), holds, thing)
 
+    def test_true_is_no_sign_and_no_count(self):
+        for one, other, paper in ((SIGN_1, G, ("sign", 1, -1)), (G, SIGN_1, ("sign", -1, 1)),
+                                  (G, ((3,),), ("count", 2, 1, 2)), (((3,),), G, ("count", 2, 2, 1))):
+            self.assertIs(alike_holds(one, other, paper), True)
+            spoilt = tuple(True if part == 1 else part for part in paper)
+            self.assertIs(alike_holds(one, other, spoilt), False)
+
     def test_values_of_all_kinds(self):
         for one, other in ((G, LOOPS), (G, ((3,),)), (G, SIGN_1), (((2, 1), (1, 2)), ((3,),)), (G, G)):
             papers = (judge_alike(one, other), ("alike", (("pass", 1),), ()), ("count", 6, 1, 2), ("sign", -1, 1),

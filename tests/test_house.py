@@ -255,6 +255,16 @@ class Changes(unittest.TestCase):
             ("least", "agree", (3, 2)), ("agree", "agree", "x", 0), ("alike", "slower", "least"), ("period", "slower", 1),
             ("slower", "slower", "least"), ("within", "slower", "least")))
 
+    def test_names_that_are_words_of_promises(self):
+        house = first_house()
+        house.deal((("web", "period", G), ("prices", "least", "period", (1, 1, 1)), ("prices", "agree", "g", (5, 2, 1)),
+                    ("promise", ("period", "g", 1)), ("promise", ("agree", "p", "p", 0))))
+        house.change(("prices", "agree", "period", (1, 2, 3)))
+        house.deal((("drop", "least"), ("drop", "agree"), ("drop", "period")))
+        self.assertEqual(house.names(), ("g", "p"))
+        house.deal((("web", "period", G), ("rename", "period", "alike")))
+        self.assertEqual(house.promises(), (("least", "p", (3, 2)), ("period", "g", 1), ("agree", "p", "p", 0)))
+
     def test_prices_led_along(self):
         house = House()
         web = ((1, 2), (1, 1))

@@ -127,6 +127,23 @@ class Language(unittest.TestCase):
                     seen.append(node.name)
             self.assertEqual(len(seen), len(set(seen)), stem)
 
+    def test_tables_are_only_read(self):
+        for stem, tree in TREES.items():
+            tables = {target.id for node in tree.body if isinstance(node, ast.Assign) for target in node.targets
+                      if isinstance(node.value, (ast.Dict, ast.List))}
+            readers = {id(child) for node in ast.walk(tree) for child in ast.iter_child_nodes(node)
+                       if isinstance(node, ast.Subscript) and child is node.value
+                       or isinstance(node, ast.Compare) and child in node.comparators}
+            for node in ast.walk(tree):
+                if isinstance(node, ast.Name) and node.id in tables and isinstance(node.ctx, ast.Load):
+                    self.assertIn(id(node), readers, f"{stem}.py:{node.lineno}")
+
+    def test_calls_with_stars(self):
+        for where, node in nodes(ast.Call):
+            for arg in node.args:
+                if isinstance(arg, ast.Starred):
+                    self.assertIsInstance(arg.value, (ast.Name, ast.Attribute), where)
+
     def test_nodes(self):
         for where, node in nodes(*BARRED_NODES):
             self.fail(f"{where}: {node}")

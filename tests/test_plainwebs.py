@@ -73,6 +73,15 @@ class PlainWebs(unittest.TestCase):
             for thing in changed_once(web):
                 self.assertIs(is_plain_web(thing), is_plain(thing), thing)
 
+    def test_only_the_last_item_may_be_below_0(self):
+        # As [8.3] tells, but with e_1 = -1 or e_2 = -2.
+        for web, holds in ((((2, 1, 1), (1, 3, 1), (2, 2, 2)), True), (((2, 1, 1), (2, 2, 2), (1, 1, 3)), False),
+                           (((2, 1, 1), (2, 2, 2), (2, 2, 2)), False), (((2, 1, 1), (1, 3, 1), (3, 3, 2)), True),
+                           (((2, 1, 1), (3, 2, 3), (1, 1, 4)), False), (((2, 1, 1), (1, 2, 1), (2, 2, 2)), False),
+                           (((2, 1, 1), (1, 3, 1), (1, 1, 3)), True)):
+            self.assertTrue(plainly.is_web(web))
+            self.assertIs(is_plain_web(web), holds, web)
+
     def test_up_to_8_rooms(self):
         for n in (7, 8):
             for group, sense in (((), -1), ((), 1), ((2, 6), -1), ((2, 6), 1), ((0,), 0), ((5,) * n, 1), ((5,) * n, -1)):
@@ -111,7 +120,7 @@ class Errors(unittest.TestCase):
 
     def test_bad_divisors(self):
         for n, group in ((1, (0,)), (2, (0, 0)), (3, (0, 0, 0)), (1, (2, 2)), (2, (2, 2, 2)), (3, (1,)), (3, (2, 1)),
-                         (3, (1, 2)), (3, (2, 3)), (3, (4, 2)), (3, (0, 2)), (3, (-2,)), (3, (2, -4)), (3, (True,)),
+                         (3, (1, 2)), (3, (2, 3)), (3, (4, 2)), (3, (0, 2)), (3, (-2,)), (3, (-1,)), (3, (2, -4)), (3, (True,)),
                          (3, (False,)), (3, [2]), (3, None), (3, 2), (3, "2"), (3, ("2",)), (3, ((2,),)), (3, {}),
                          (3, (2.0,)), (4, (2, 4, 6)), (4, (2, 0, 4)), (6, (2,) * 7)):
             for sense in (1, -1, 0, None):

@@ -99,6 +99,15 @@ class Judged(unittest.TestCase):
                                (("within", "h", "g"), ("length", 1)), (("slower", "h", "g"), ("length", 1))):
             self.assertIs(promise_fault_holds(house, promise, thing), False)
 
+    def test_right_papers_that_are_no_faults(self):
+        house = full_house()
+        for promise, paper in ((("alike", "g", "c"), ("alike", (("pass", 1),), ())),
+                               (("slower", "g", "c"), ("less", (2, 1), (2, 1), (1,))),
+                               (("within", "g", "c"), house.judged(("slower", "c", "g"))),
+                               (("agree", "p", "q", 0), ("heights", (0, 2))), (("least", "p", (3, 2)), ("heights", (0, 1)))):
+            self.assertEqual(house.judged(promise), ("kept",))
+            self.assertIs(promise_fault_holds(house, promise, paper), False)
+
     def test_spoilt_faults(self):
         house, keep = full_house(), full_keep()
         for promise, fault in UNKEPT:
