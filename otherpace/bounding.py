@@ -98,7 +98,8 @@ def is_bound_of(one, other, thing):
     if not is_integer_from(length, exponent) or not is_integer_below(length, MOST_LENGTH + 1):
         return False
     numbers = (above_one, below, above)
-    if not all([is_number(number) for number in numbers]):
+    # The growth of one is above 0, and so are a and, as it is not less, b.
+    if not all([is_number(number) and number[0] > 0 for number in numbers]):
         return False
     if not shows_at_most(one, above_one, row_one, -1) or not shows_at_most(other, above, row_above, -1):
         return False

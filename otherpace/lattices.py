@@ -61,8 +61,9 @@ def diagonal_frame(table):
     """
     many = len(table)
     units = unit_table(many)
-    frame = [[*row, *unit] for row, unit in zip(table, units)]
-    frame.extend([[*unit, *[0] * many] for unit in units])
+    zeros = [0] * many
+    frame = [list(row) + list(unit) for row, unit in zip(table, units)]
+    frame.extend([list(unit) + zeros for unit in units])
     for at in range(many):
         while not is_settled(frame, many, at):
             bring_forward(frame, many, at)
@@ -94,7 +95,8 @@ def bring_forward(frame, many, at):
     rooms = list(range(at, many))
     _, i, j = min([(abs(frame[i][j]), i, j) for i in rooms for j in rooms if frame[i][j] != 0])
     frame[at], frame[i] = frame[i], frame[at]
-    for place in range(len(frame)):
+    end = 2 * many
+    for place in range(end):
         row = list(frame[place])
         row[at], row[j] = row[j], row[at]
         frame[place] = row
@@ -109,7 +111,8 @@ def clear_rows(frame, many, at):
 def clear_columns(frame, many, at):
     """Subtract multiples of the column of a place of the diagonal from all columns behind it."""
     times = [frame[at][other] // frame[at][at] for other in range(at + 1, many)]
-    for place in range(len(frame)):
+    end = 2 * many
+    for place in range(end):
         row = frame[place]
         behind = [item - many_times * row[at] for item, many_times in zip(row[at + 1:many], times)]
         frame[place] = row[:at + 1] + behind + row[many:]

@@ -44,7 +44,13 @@ def number_power(number, exponent):
 
 
 def is_at_most(one, other):
-    """Whether a number is at most another one."""
+    """Whether a number is at most another one, if both are above 0."""
+    bits = one[0].bit_length() + other[1].bit_length()
+    other_bits = other[0].bit_length() + one[1].bit_length()
+    # A product has as many bits as both factors together, or one less. So long products are made
+    # only where this does not tell which one is less.
+    if abs(bits - other_bits) > 1:
+        return bits < other_bits
     return one[0] * other[1] <= other[0] * one[1]
 
 

@@ -42,6 +42,7 @@ class Way:
         """Take row 0 of the surplus, in which all items are above 0, away from the other rows as
         often as all items stay above 0."""
         first = self.surplus(0)
-        for i in range(1, len(self.table)):
+        end = len(first)
+        for i in range(1, end):
             times = min([(item - 1) // step for item, step in zip(self.surplus(i), first)])
             self.add_row(i, 0, -times)

@@ -67,6 +67,11 @@ class Bounds(unittest.TestCase):
         # a shows less than the growth, b more, c less; a above b.
         for parts in ({"a": (7, 5), "v": (10, 7)}, {"b": (9, 4)}, {"c": (7, 4)}, {"a": (9, 4), "length": 4000}):
             self.check(TWO_STEPS, LOOPS, with_parts(BOUND, **parts), False)
+        for b in ((0, 1), (-2, 1), (-1, 1), (-2, 3), (-(10 ** 39), 1), (-3, 2), (-17, 5)):
+            for length in (8, 9, 400):
+                self.check(TWO_STEPS, LOOPS, with_parts(BOUND, b=b, length=length), False)
+            self.check(TWO_STEPS, LOOPS, with_parts(BOUND, a=b, length=400), False)
+            self.check(TWO_STEPS, LOOPS, with_parts(BOUND, c=b, length=400), False)
         # Equal numbers: the condition about the powers of a and b can never be met.
         self.check(TWO_STEPS, LOOPS, with_parts(BOUND, a=(2, 1), length=4000), False)
         # (L + 2) c is at most L b^2 only for c below b^2.
