@@ -9,6 +9,7 @@ from otherpace.deeds import can_be_done, done
 from otherpace.errors import BadDeed, BadNumber, BadRow, BadWeb, NoDeed
 from otherpace.groups import count_of, divisors_of, image, judge_led, led_holds, plain_row, sign_of, stairs
 from tests import plainly, right, taken
+from tests.right import less_table
 from tests.samples import (
     ANY_VALUES, EIGHT, FULL, G, HUGE, LONG_RING, LOOPS, NO_WEBS, TWO_STEPS, changed_once, random_web, random_webs)
 
@@ -19,26 +20,9 @@ WEBS = [G, LOOPS, FOUR, ((7,),), NOUGHT, TWO_STEPS, LONG_RING, EIGHT, ((1, 1), (
         ((0, 1, 1), (2, 0, 0), (1, 0, 1))] + random_webs(701, 60, rooms=5, item=6, most_arrows=200)
 
 
-def less(web):
-    return [[int(i == j) - item for j, item in enumerate(row)] for i, row in enumerate(web)]
-
-
-def minors(table, size):
-    """The greatest common divisor of all determinants of so many rows and columns."""
-    choices = list(itertools.combinations(range(len(table)), size))
-    return math.gcd(*[plainly.determinant([[table[i][j] for j in columns] for i in rows])
-                      for rows in choices for columns in choices])
-
-
-def divisors(web):
-    found = [1] + [minors(less(web), size) for size in range(1, len(web) + 1)]
-    quotients = [high // low if high else 0 for low, high in zip(found, found[1:])]
-    return tuple(item for item in quotients if item != 1)
-
-
 def count(web, m):
     rows = itertools.product(range(m), repeat=len(web))
-    return sum(all(sum(x * y for x, y in zip(line, row)) % m == 0 for line in less(web)) for row in rows)
+    return sum(all(sum(x * y for x, y in zip(line, row)) % m == 0 for line in less_table(web)) for row in rows)
 
 
 def random_rows(seed, web, many, digits=12):
@@ -51,7 +35,7 @@ def random_rows(seed, web, many, digits=12):
 
 def sum_of_lines(web, row, times):
     """The row plus z - z A."""
-    return tuple(item + sum(z * line[at] for z, line in zip(times, less(web))) for at, item in enumerate(row))
+    return tuple(item + sum(z * line[at] for z, line in zip(times, less_table(web))) for at, item in enumerate(row))
 
 
 class Group(unittest.TestCase):
@@ -66,9 +50,9 @@ class Group(unittest.TestCase):
         for web in WEBS:
             found = divisors_of(web)
             if len(web) <= 5:
-                self.assertEqual(found, divisors(web), web)
+                self.assertEqual(found, right.divisors(web), web)
             many.add(len(found))
-            determinant = plainly.determinant(less(web))
+            determinant = plainly.determinant(less_table(web))
             self.assertEqual(math.prod(found), abs(determinant))
             self.assertEqual(sign_of(web), (determinant > 0) - (determinant < 0))
         self.assertEqual(many, {0, 1, 2, 3})
@@ -101,7 +85,7 @@ class Group(unittest.TestCase):
                 # Each stair is a sum of the rows z - z A, and each of these is a sum of stairs.
                 self.assertTrue(right.led_together(web, (0,) * len(web), row, judge_led(web, (0,) * len(web), row)))
                 self.assertEqual(judge_led(web, (0,) * len(web), row)[0], "led")
-            for line in less(web):
+            for line in less_table(web):
                 left = line
                 for row, lead in zip(found, leads):
                     left = [x - left[lead] // row[lead] * y for x, y in zip(left, row)]

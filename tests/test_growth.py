@@ -30,10 +30,6 @@ def bounds(web):
     return min(rates), max(rates)
 
 
-def is_power_of_2(number):
-    return number & (number - 1) == 0
-
-
 class Floors(unittest.TestCase):
     def test_examples(self):
         self.assertEqual(growth_floor(G, 0), 1)

@@ -8,7 +8,7 @@ from otherpace.console import Console
 from otherpace.errors import BadChange, BadPromise, NoName, NothingToRedo, NothingToUndo, PaceError, Unkept
 from otherpace.house import House, promise_fault_holds
 from tests import keeping, plainly, taken
-from tests.samples import ANY_VALUES, G, LOOPS, TWO_STEPS, changed_once, random_row, random_web
+from tests.samples import ANY_VALUES, G, LOOPS, TWO_STEPS, changed_once, random_row
 
 NAMES = ("g", "c", "p", "q", "abcdefgh")
 WEBS = (G, LOOPS, TWO_STEPS, ((1, 2), (1, 0)), ((3,),), ((2, 1), (1, 2)), ((2, 1), (1, 3)), ((0, 1, 1), (2, 0, 0), (1, 0, 1)))
