@@ -49,7 +49,7 @@ def lists_led(lists, deed):
         return pass_lists(lists, deed[1])
     if deed[0] == "stretch":
         return stretch_lists(lists, deed[1], deed[2])
-    return [[lists[i][j] for j in deed[1]] for i in deed[1]]
+    return [[lists[room][other] for other in deed[1]] for room in deed[1]]
 
 
 def turned_lists(lists):

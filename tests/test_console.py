@@ -113,6 +113,14 @@ class Changing(unittest.TestCase):
         with self.assertRaises(NothingToUndo):
             Console(House()).run("undo")
 
+    def test_names_that_are_words_of_commands(self):
+        console = Console(House())
+        for line, names in (("web undo 2", "undo"), ("web x 1,1 1,0", "undo x"), ("rename x redo", "redo undo"),
+                            ("drop undo", "redo"), ("rename redo undo", "undo"), ("web names 3", "names undo"),
+                            ("rename names redo", "redo undo"), ("drop redo", "undo"), ("drop undo", "-")):
+            self.assertEqual(console.run(line), "done")
+            self.assertEqual(console.run("names"), names, line)
+
 
 class Asking(unittest.TestCase):
     def test_webs(self):
